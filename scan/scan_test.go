@@ -10,44 +10,18 @@ import (
 	"semispace/evacuate"
 	"semispace/graph"
 	"semispace/header"
+	"semispace/heaptest"
 	"semispace/object"
 	"semispace/scan"
 )
 
-// conf has few small pages, and wide has many great ones.
-var (
-	conf = api.Conf{PageWords: 16, Pages: 8}
-	wide = api.Conf{PageWords: 64, Pages: 64}
-)
-
-// ordinary is a scene with each kind of page; thing 1 is at 4096.
-//
-//   - page 0: a Record with two pointers, a Filler at 4100, Words at 4102, two
-//     objects without fields, and Refs at 4106; two free words
-//   - page 1, at 4112, and page 2: Refs of 19 fields
-//   - page 3, at 4144, which is pinned: a Record with one pointer, Words at
-//     4147, and Refs at 4150
-//   - page 5, at 4176: Refs that refer to each other, 11 at 4176 and 12 at 4179
-//   - page 6, at 4192, which is pinned: Words up to its last word
-//   - pages 4, at 4160, and 7, at 4208: FreePages
-func ordinary(space int) scene {
-	great := make([]uint64, 19)
-	great[0], great[1], great[18] = 1, 7, 9
-	return scene{conf, space, []int{3, 6}, []thing{
-		record(0, 5, 3, 4102, 1), filler(0, 1), words(0, 4096), refs(0), record(0, 0), refs(0, 0, 8, 0),
-		refs(1, great...),
-		record(3, 2, 4096, 6), words(3, 5, 1<<64-1), refs(3, 9),
-		refs(5, 12, 13), refs(5, 11), words(6, make([]uint64, 15)...),
-	}}
-}
-
 // begin returns the Work for the heap of a scene.
 func begin(t *testing.T, s scene) evacuate.Work {
 	t.Helper()
-	if f := audit.Check(s.heap()); f != (audit.Finding{}) {
+	if f := audit.Check(s.Heap()); f != (audit.Finding{}) {
 		t.Fatalf("a heap of the tests has the finding %v", f)
 	}
-	w, e := evacuate.Begin(s.heap())
+	w, e := evacuate.Begin(s.Heap())
 	if e != api.OK {
 		t.Fatalf("Begin: error %d", e)
 	}
@@ -73,14 +47,14 @@ func safely(t *testing.T, w evacuate.Work, call func(evacuate.Work) (evacuate.Wo
 // roots is scan.Roots with the checks of safely.
 func roots(t *testing.T, w evacuate.Work, l []uint64) (evacuate.Work, []uint64, api.Errno) {
 	t.Helper()
-	arg := roomy(l, 77)
-	before := whole(arg)
+	arg := heaptest.Roomy(l, 77)
+	before := heaptest.Whole(arg)
 	var news []uint64
 	got, e := safely(t, w, func(w evacuate.Work) (next evacuate.Work, e api.Errno) {
 		next, news, e = scan.Roots(w, arg)
 		return next, e
 	})
-	if !slices.Equal(whole(arg), before) {
+	if !slices.Equal(heaptest.Whole(arg), before) {
 		t.Fatal("Roots: the roots have changed")
 	}
 	if e != api.OK && len(news) != 0 {
@@ -193,16 +167,16 @@ func settled(t *testing.T, w evacuate.Work) {
 // with the model. It returns the error that ends this.
 func run(t *testing.T, s scene, refs []uint64) api.Errno {
 	t.Helper()
-	at := s.addresses()
-	want, to, ok := s.model(refs, 0)
+	at := s.Addresses()
+	want, to, ok := model(s, refs, 0)
 	if !ok {
-		failsAt(t, begin(t, s), valuesOf(at, refs), api.ErrMemory)
+		failsAt(t, begin(t, s), heaptest.ValuesOf(at, refs), api.ErrMemory)
 		return api.ErrMemory
 	}
-	works := []evacuate.Work{rooted(t, begin(t, s), valuesOf(at, refs), valuesOf(to, refs))}
+	works := []evacuate.Work{rooted(t, begin(t, s), heaptest.ValuesOf(at, refs), heaptest.ValuesOf(to, refs))}
 	equal(t, works[0], want)
-	for k := 0; k < len(s.queue(refs, k)); k++ {
-		want, _, ok := s.model(refs, k+1)
+	for k := 0; k < len(s.Queue(refs, k)); k++ {
+		want, _, ok := model(s, refs, k+1)
 		if !ok {
 			stuck(t, works[k], api.ErrMemory)
 			if _, e := safely(t, works[0], scan.All); e != api.ErrMemory {
@@ -219,7 +193,7 @@ func run(t *testing.T, s scene, refs []uint64) api.Errno {
 	for _, w := range works {
 		endsAs(t, w, end)
 	}
-	reachable, _ := graph.Order(s.heap(), valuesOf(at, refs))
+	reachable, _ := graph.Order(s.Heap(), heaptest.ValuesOf(at, refs))
 	if n := len(reachable); len(works)-1 != n || end.Scanned != n || len(end.Queue) != n {
 		t.Fatalf("%d objects are reachable, %d steps, %d scanned, %d in the queue", n, len(works)-1, end.Scanned, len(end.Queue))
 	}
@@ -227,11 +201,11 @@ func run(t *testing.T, s scene, refs []uint64) api.Errno {
 }
 
 func TestExamples(t *testing.T) {
-	w := begin(t, ordinary(0))
+	w := begin(t, heaptest.Ordinary(0))
 	if next, more, e := scan.Step(w); more || e != api.OK || !sameWork(next, w) {
 		t.Errorf("Step with an empty Queue: %t, error %d, %v", more, e, next)
 	}
-	list := scene{conf: conf, things: []thing{refs(0, 2), refs(0, 3), refs(0, 0), refs(0, 1)}}
+	list := scene{Conf: heaptest.Conf, Things: []heaptest.Thing{heaptest.Refs(0, 2), heaptest.Refs(0, 3), heaptest.Refs(0, 0), heaptest.Refs(0, 1)}}
 	w = rooted(t, begin(t, list), []uint64{4096}, []uint64{4112})
 	if w, e := scan.All(w); w.Scanned != 3 || e != api.OK {
 		t.Errorf("All with a list of three objects: Scanned %d, error %d", w.Scanned, e)
@@ -241,14 +215,14 @@ func TestExamples(t *testing.T) {
 // 11.1: roots on each kind of page, null ones, and ones that come twice.
 func TestRoots(t *testing.T) {
 	for space := range 2 {
-		s := ordinary(space)
+		s := heaptest.Ordinary(space)
 		w := begin(t, s)
 		got := rooted(t, w, []uint64{4112, 0, 4144, 4112, 4106, 0}, []uint64{4112, 0, 4144, 4112, 4160, 0})
 		if !slices.Equal(got.Queue, []uint64{4112, 4144, 4160}) || got.Scanned != 0 || got.Report != (api.Report{Copied: 1, Kept: 2}) {
 			t.Errorf("%v, %d, %v", got.Queue, got.Scanned, got.Report)
 		}
 		// What the roots refer to is not scanned.
-		want, _, _ := s.model([]uint64{7, 8, 6}, 0)
+		want, _, _ := model(s, []uint64{7, 8, 6}, 0)
 		equal(t, got, want)
 		if !slices.Equal(got.Heap.Words[64:68], []uint64{57, 0, 4144, 0}) || got.Heap.Words[17] != 4096 || got.Heap.Words[50] != 4106 {
 			t.Errorf("%v", got.Heap.Words)
@@ -258,7 +232,7 @@ func TestRoots(t *testing.T) {
 
 // 11.1: the order of the roots is the order of the copies and of the queue.
 func TestOrderOfRoots(t *testing.T) {
-	w := begin(t, ordinary(0))
+	w := begin(t, heaptest.Ordinary(0))
 	for _, x := range []struct{ roots, news, queue []uint64 }{
 		{[]uint64{4096, 4102, 4104}, []uint64{4160, 4164, 4166}, []uint64{4160, 4164, 4166}},
 		{[]uint64{4104, 4102, 4096}, []uint64{4160, 4161, 4163}, []uint64{4160, 4161, 4163}},
@@ -274,51 +248,42 @@ func TestOrderOfRoots(t *testing.T) {
 
 // 11.1: no roots, only null ones, and very many.
 func TestNumbersOfRoots(t *testing.T) {
-	for _, s := range []scene{ordinary(0), ordinary(1), {conf: conf}, {conf: wide, space: 1}} {
+	for _, s := range []scene{heaptest.Ordinary(0), heaptest.Ordinary(1), {Conf: heaptest.Conf}, {Conf: heaptest.Wide, Space: 1}} {
 		w := begin(t, s)
 		equal(t, rooted(t, w, nil, nil), w)
 		equal(t, rooted(t, w, []uint64{}, nil), w)
 		equal(t, rooted(t, w, []uint64{0}, []uint64{0}), w)
 		equal(t, rooted(t, w, make([]uint64, 1000), make([]uint64, 1000)), w)
 	}
-	w := begin(t, ordinary(0))
+	w := begin(t, heaptest.Ordinary(0))
 	one := rooted(t, w, []uint64{4106}, []uint64{4160})
 	equal(t, rooted(t, w, slices.Repeat([]uint64{4106}, 1000), slices.Repeat([]uint64{4160}, 1000)), one)
 }
 
 // 11.1: roots after other roots and between steps, by old and by new addresses.
 func TestRootsAgain(t *testing.T) {
-	s := ordinary(1)
+	s := heaptest.Ordinary(1)
 	w := rooted(t, begin(t, s), []uint64{4106, 4144}, []uint64{4160, 4144})
 	equal(t, rooted(t, w, []uint64{4144, 4160, 4106}, []uint64{4144, 4160, 4160}), w)
-	want, _, _ := s.model([]uint64{6, 8, 3, 9}, 0)
+	want, _, _ := model(s, []uint64{6, 8, 3, 9}, 0)
 	equal(t, rooted(t, w, []uint64{4102, 4147}, []uint64{4164, 4147}), want)
 	w = stepped(t, w)
-	want, _, _ = s.model([]uint64{6, 8, 4}, 1)
+	want, _, _ = model(s, []uint64{6, 8, 4}, 1)
 	w = rooted(t, w, []uint64{4160, 4104}, []uint64{4160, 4164})
 	equal(t, w, want)
-	want, _, _ = s.model([]uint64{6, 8, 4, 1}, 3)
+	want, _, _ = model(s, []uint64{6, 8, 4, 1}, 3)
 	w = rooted(t, stepped(t, stepped(t, w)), []uint64{4096, 0, 4104}, []uint64{4165, 0, 4164})
 	equal(t, w, want)
-	want, _, _ = s.model([]uint64{6, 8, 4, 1}, 5)
+	want, _, _ = model(s, []uint64{6, 8, 4, 1}, 5)
 	endsAs(t, w, want)
 	finished(t, want)
 }
 
-// noObjects are what is no address of an object in a heap of ordinary.
-var noObjects = []uint64{
-	1, 4095, // in front of the arena
-	4097, 4099, 4103, 4107, 4113, 4131, 4145, 4193, 4207, // fields
-	4100, 4101, 4110, 4111, 4152, 4159, // a Filler and free words
-	4128, 4161, 4175, 4208, 4223, // a TailPage and FreePages
-	4224, 1<<32 + 4096, 1<<63 + 4096, 1<<64 - 1, // behind the arena
-}
-
 // 11.1: roots that are no references.
 func TestRootsThatAreNoObjects(t *testing.T) {
-	w := begin(t, ordinary(0))
+	w := begin(t, heaptest.Ordinary(0))
 	good := []uint64{4096, 0, 4112, 4144, 4192, 4102}
-	for _, bad := range noObjects {
+	for _, bad := range heaptest.NoObjects() {
 		failsAt(t, w, []uint64{bad}, api.ErrCorrupt)
 		for k := range len(good) + 1 {
 			failsAt(t, w, slices.Insert(slices.Clone(good), k, bad), api.ErrCorrupt)
@@ -328,28 +293,13 @@ func TestRootsThatAreNoObjects(t *testing.T) {
 	// The address of a copy is a root only when the copy is there.
 	failsAt(t, w, []uint64{4160, 4096}, api.ErrCorrupt)
 	rooted(t, w, []uint64{4096, 4160}, []uint64{4160, 4160})
-	failsAt(t, begin(t, scene{conf: conf}), []uint64{4096}, api.ErrCorrupt)
-}
-
-// full is a scene in which only the last n pages are free: eight objects of
-// four words on two pages, which are copied, two objects on a pinned page, and
-// a large one at 4144 with these fields.
-func full(n int, fields ...uint64) scene {
-	s := scene{conf: conf, pinned: []int{2}}
-	for k := range 8 {
-		s.things = append(s.things, words(k/4, 1, 2, 3))
-	}
-	s.things = append(s.things, refs(2, 10, 9), words(2, 4), refs(3, append(fields, make([]uint64, 19-len(fields))...)...))
-	for i := 5; i < 8-n; i++ {
-		s.things = append(s.things, words(i))
-	}
-	return s
+	failsAt(t, begin(t, scene{Conf: heaptest.Conf}), []uint64{4096}, api.ErrCorrupt)
 }
 
 // 11.1: roots for which there is no room, alone and with roots that are no
 // references: the first one that has an error determines it.
 func TestRootsWithoutRoom(t *testing.T) {
-	w := begin(t, full(0))
+	w := begin(t, heaptest.Full(0))
 	for _, l := range [][]uint64{{4096}, {0, 4096}, {4128, 4144, 4131, 4096}, {4128, 4096, 1}, {4096, 4129}, {4096, 1, 4100, 1}} {
 		failsAt(t, w, l, api.ErrMemory)
 	}
@@ -358,7 +308,7 @@ func TestRootsWithoutRoom(t *testing.T) {
 	}
 	rooted(t, w, []uint64{0, 4128, 4144, 4131}, []uint64{0, 4128, 4144, 4131})
 	// Four objects fill the only page exactly, and after them one has no room.
-	w = begin(t, full(1))
+	w = begin(t, heaptest.Full(1))
 	four := []uint64{4124, 4096, 4100, 4112}
 	filled := rooted(t, w, four, []uint64{4208, 4212, 4216, 4220})
 	failsAt(t, w, append(four, 4104), api.ErrMemory)
@@ -367,13 +317,13 @@ func TestRootsWithoutRoom(t *testing.T) {
 	failsAt(t, filled, []uint64{4104}, api.ErrMemory)
 	equal(t, rooted(t, filled, four, []uint64{4208, 4212, 4216, 4220}), filled)
 	rooted(t, filled, []uint64{4220, 4128}, []uint64{4220, 4128})
-	rooted(t, begin(t, full(2)), append(four, 4104), []uint64{4192, 4196, 4200, 4204, 4208})
+	rooted(t, begin(t, heaptest.Full(2)), append(four, 4104), []uint64{4192, 4196, 4200, 4204, 4208})
 }
 
 // 11.2: step by step, written out.
 func TestStep(t *testing.T) {
 	for space := range 2 {
-		w := rooted(t, begin(t, ordinary(space)), []uint64{4112, 4144, 4106}, []uint64{4112, 4144, 4160})
+		w := rooted(t, begin(t, heaptest.Ordinary(space)), []uint64{4112, 4144, 4106}, []uint64{4112, 4144, 4160})
 		words, pages := slices.Clone(w.Heap.Words), slices.Clone(w.Heap.Pages)
 		for k, x := range []struct {
 			changes map[int]uint64 // of words
@@ -406,12 +356,12 @@ func TestStep(t *testing.T) {
 
 // 11.2: a Step at the end of the queue, before and after roots.
 func TestStepAtTheEnd(t *testing.T) {
-	for _, s := range []scene{ordinary(0), {conf: conf, space: 1}, full(0)} {
+	for _, s := range []scene{heaptest.Ordinary(0), {Conf: heaptest.Conf, Space: 1}, heaptest.Full(0)} {
 		w := begin(t, s)
 		finished(t, w)
 		finished(t, rooted(t, w, []uint64{0, 0}, []uint64{0, 0}))
 	}
-	w := rooted(t, begin(t, ordinary(0)), []uint64{4104}, []uint64{4160})
+	w := rooted(t, begin(t, heaptest.Ordinary(0)), []uint64{4104}, []uint64{4160})
 	w = stepped(t, w)
 	finished(t, w)
 	w = rooted(t, w, []uint64{4104}, []uint64{4160})
@@ -427,15 +377,15 @@ func TestStepAtTheEnd(t *testing.T) {
 // refer to each kind of object and to null, and whose data fields look like
 // references.
 func around(hd api.Header) scene {
-	x := thing{0, graph.Node{Header: hd, Fields: make([]uint64, hd.Length)}}
+	x := heaptest.Thing{Node: graph.Node{Header: hd, Fields: make([]uint64, hd.Length)}}
 	for i := range x.Fields {
 		x.Fields[i] = []uint64{4096, 4352, 16386, 1<<64 - 1}[i%4]
 	}
-	for k, i := range x.pointers() {
+	for k, i := range x.Pointers() {
 		x.Fields[i] = []uint64{2, 1, 3, 0, 4, 5, 2}[k%7]
 	}
-	return scene{api.Conf{PageWords: 64, Pages: 16}, 0, []int{5}, []thing{
-		x, words(4, 4352, 7), words(5, 4096), refs(6, make([]uint64, 70)...), record(4, 1, 1),
+	return scene{Conf: api.Conf{PageWords: 64, Pages: 16}, Pinned: []int{5}, Things: []heaptest.Thing{
+		x, heaptest.Words(4, 4352, 7), heaptest.Words(5, 4096), heaptest.Refs(6, make([]uint64, 70)...), heaptest.Record(4, 1, 1),
 	}}
 }
 
@@ -448,7 +398,7 @@ func TestStepOfEachHeader(t *testing.T) {
 		if e := run(t, s, []uint64{1}); e != api.OK {
 			t.Errorf("%v: error %d", hd, e)
 		}
-		_, to, _ := s.model([]uint64{1}, 0)
+		_, to, _ := model(s, []uint64{1}, 0)
 		w := stepped(t, rooted(t, begin(t, s), []uint64{4096}, to[:1]))
 		if w.Scanned != 1 || w.Report.Steps != 1+pointers {
 			t.Errorf("%v: Scanned %d, Steps %d", hd, w.Scanned, w.Report.Steps)
@@ -481,8 +431,8 @@ func TestStepWithoutRoom(t *testing.T) {
 	for i := range 19 {
 		fields := slices.Repeat([]uint64{9, 0, 11}, 7)[:19]
 		fields[i] = 6
-		stuck(t, rooted(t, begin(t, full(0, fields...)), []uint64{4144}, []uint64{4144}), api.ErrMemory)
-		if run(t, full(0, fields...), []uint64{11}) != api.ErrMemory || run(t, full(1, fields...), []uint64{11}) != api.OK {
+		stuck(t, rooted(t, begin(t, heaptest.Full(0, fields...)), []uint64{4144}, []uint64{4144}), api.ErrMemory)
+		if run(t, heaptest.Full(0, fields...), []uint64{11}) != api.ErrMemory || run(t, heaptest.Full(1, fields...), []uint64{11}) != api.OK {
 			t.Errorf("field %d", i)
 		}
 	}
@@ -496,12 +446,12 @@ func TestStepWithoutRoom(t *testing.T) {
 		{1, api.ErrMemory, []uint64{1, 9, 5, 0, 8, 1, 2, 5, 3}},
 		{2, api.OK, []uint64{1, 9, 5, 0, 8, 1, 2, 5, 3, 4, 6, 7}},
 	} {
-		if e := run(t, full(x.free, x.l...), []uint64{11}); e != x.want {
+		if e := run(t, heaptest.Full(x.free, x.l...), []uint64{11}); e != x.want {
 			t.Errorf("fields %v: error %d, want %d", x.l, e, x.want)
 		}
 	}
 	// The error comes with the second object of the queue, also for All.
-	w := rooted(t, begin(t, full(0, 9, 10, 4)), []uint64{4131, 4144}, []uint64{4131, 4144})
+	w := rooted(t, begin(t, heaptest.Full(0, 9, 10, 4)), []uint64{4131, 4144}, []uint64{4131, 4144})
 	stuck(t, stepped(t, w), api.ErrMemory)
 	if _, e := safely(t, w, scan.All); e != api.ErrMemory {
 		t.Errorf("All: error %d", e)
@@ -521,7 +471,7 @@ func TestStepWithSeveralErrors(t *testing.T) {
 			if none < bad {
 				want = api.ErrMemory
 			}
-			w := rooted(t, begin(t, full(0, fields...)), []uint64{4144}, []uint64{4144})
+			w := rooted(t, begin(t, heaptest.Full(0, fields...)), []uint64{4144}, []uint64{4144})
 			w.Heap, _ = object.SetField(w.Heap, 4144, bad, 4129)
 			stuck(t, w, want)
 		}
@@ -531,9 +481,9 @@ func TestStepWithSeveralErrors(t *testing.T) {
 // 11.3: an error of a later Step, and none of a Step before it.
 func TestAllWithoutRoom(t *testing.T) {
 	for n := range 8 { // pages with a list of four objects on each
-		s := scene{conf: conf}
+		s := scene{Conf: heaptest.Conf}
 		for k := range 4 * n {
-			s.things = append(s.things, refs(k/4, uint64(k), 0, 0))
+			s.Things = append(s.Things, heaptest.Refs(k/4, uint64(k), 0, 0))
 		}
 		want := api.OK
 		if n > 4 { // fewer than n FreePages
@@ -547,7 +497,7 @@ func TestAllWithoutRoom(t *testing.T) {
 
 // 11.1 to 11.4: each list of two roots in a heap, against the model.
 func TestAllPairsOfRoots(t *testing.T) {
-	s := ordinary(1)
+	s := heaptest.Ordinary(1)
 	for a := range uint64(14) {
 		for b := range uint64(14) {
 			if a == 2 || b == 2 { // the Filler
@@ -564,9 +514,9 @@ func TestAllPairsOfRoots(t *testing.T) {
 func TestIrregularHeaps(t *testing.T) {
 	results := map[api.Errno]int{}
 	for seed := range 250 {
-		x := numbers(seed + 1)
-		s := x.scene()
-		results[run(t, s, x.refs(s, x.below(12)))]++
+		x := heaptest.Numbers(seed + 1)
+		s := x.Scene()
+		results[run(t, s, x.Refs(s, x.Below(12)))]++
 	}
 	if results[api.OK] < 50 || results[api.ErrMemory] < 50 {
 		t.Errorf("hardly any of one kind: %v", results)
@@ -577,16 +527,11 @@ func TestIrregularHeaps(t *testing.T) {
 // directions, and one object more.
 func TestLongList(t *testing.T) {
 	for _, n := range []int{1024, 1025} {
-		forth, back := scene{conf: wide}, scene{conf: wide, space: 1}
-		for k := range n { // 32 on each page
-			forth.things = append(forth.things, refs(k/32, uint64((k+2)%(n+1))))
-			back.things = append(back.things, refs(k/32, uint64(k)))
-		}
 		for _, x := range []struct {
 			s    scene
 			root int
-		}{{forth, 0}, {back, n - 1}} {
-			w, _, e := scan.Roots(begin(t, x.s), []uint64{x.s.addresses()[x.root]})
+		}{{heaptest.List(n, false), 0}, {heaptest.List(n, true), n - 1}} {
+			w, _, e := scan.Roots(begin(t, x.s), []uint64{x.s.Addresses()[x.root]})
 			if e != api.OK {
 				t.Fatalf("Roots: error %d", e)
 			}
@@ -608,28 +553,20 @@ func TestLongList(t *testing.T) {
 // 11.4: all words of the arena are objects with pointers to each other. There
 // are as many steps as words.
 func TestFullHeap(t *testing.T) {
-	x := numbers(1)
-	s := scene{conf: wide}
-	for i := range 64 {
-		s.things = append(s.things, refs(i, make([]uint64, 63)...))
-	}
-	x.setFields(s)
-	for k := range s.things {
-		s.things[k].Fields[62] = uint64((k+1)%64 + 1)
-	}
+	s := heaptest.AllUsed()
 	w, _, _ := scan.Roots(begin(t, s), []uint64{4096 + 64*7})
 	w, e := scan.All(w)
 	if e != api.OK || w.Scanned != 64 || w.Report != (api.Report{Kept: 64, Steps: 4096}) {
 		t.Errorf("error %d, Scanned %d, %v", e, w.Scanned, w.Report)
 	}
-	want, _, _ := s.model([]uint64{8}, 64)
+	want, _, _ := model(s, []uint64{8}, 64)
 	equal(t, w, want)
 	settled(t, w)
 }
 
 // R5: calls on one Work do not disturb each other.
 func TestForks(t *testing.T) {
-	s := ordinary(0)
+	s := heaptest.Ordinary(0)
 	w := roomyWork(rooted(t, begin(t, s), []uint64{4106, 4144}, []uint64{4160, 4144}))
 	a, more, _ := scan.Step(w)
 	b, news, _ := scan.Roots(w, []uint64{4096})
@@ -644,7 +581,7 @@ func TestForks(t *testing.T) {
 		roots []uint64
 		steps int
 	}{{a, []uint64{6, 8}, 1}, {b, []uint64{6, 8, 1}, 0}, {c, []uint64{6, 8}, 1}, {d, []uint64{6, 8}, 2}, {f, []uint64{6, 8, 11}, 0}} {
-		want, _, _ := s.model(x.roots, x.steps)
+		want, _, _ := model(s, x.roots, x.steps)
 		equal(t, x.got, want)
 	}
 }
@@ -678,7 +615,7 @@ func fresh(t *testing.T, arg, got evacuate.Work, e api.Errno) {
 
 // Rule 7 of the language: results are new memory, also where nothing changes.
 func TestNewMemory(t *testing.T) {
-	w := rooted(t, begin(t, ordinary(0)), []uint64{4096, 4104}, []uint64{4160, 4164})
+	w := rooted(t, begin(t, heaptest.Ordinary(0)), []uint64{4096, 4104}, []uint64{4160, 4164})
 	for range 4 { // the last time, nothing is left to do
 		for _, l := range [][]uint64{nil, {0, 0}, {4096}, {4176, 4112}} {
 			arg, list := roomyWork(w), slices.Clone(l)
@@ -711,11 +648,11 @@ var strange = []func(w *evacuate.Work){
 		w.Report.Steps, w.Report.Kept, w.Report.Copied = math.MaxInt, math.MaxInt, math.MaxInt
 	},
 	func(w *evacuate.Work) { w.Queue = append([]uint64{0}, w.Queue...) },
-	func(w *evacuate.Work) { w.Queue = append(w.Queue, noObjects...) },
+	func(w *evacuate.Work) { w.Queue = append(w.Queue, heaptest.NoObjects()...) },
 	func(w *evacuate.Work) { w.Queue = append(w.Queue, w.Old...) },
 	func(w *evacuate.Work) { w.Queue = append(w.Queue, w.Queue...) },
 	func(w *evacuate.Work) { w.Queue = w.Queue[:len(w.Queue)/2] },
-	func(w *evacuate.Work) { w.Old = append(w.Old, noObjects...) },
+	func(w *evacuate.Work) { w.Old = append(w.Old, heaptest.NoObjects()...) },
 	func(w *evacuate.Work) { w.Old = nil },
 	func(w *evacuate.Work) { w.Taken = []int{-1} },
 	func(w *evacuate.Work) { w.Taken = []int{math.MaxInt, 8} },
@@ -723,7 +660,7 @@ var strange = []func(w *evacuate.Work){
 	func(w *evacuate.Work) { w.Taken = nil },
 	func(w *evacuate.Work) { w.Heap.Words = nil },
 	func(w *evacuate.Work) { w.Heap.Pages = nil },
-	func(w *evacuate.Work) { w.Heap.Conf = wide },
+	func(w *evacuate.Work) { w.Heap.Conf = heaptest.Wide },
 	func(w *evacuate.Work) { w.Heap.Space = 2 },
 	func(w *evacuate.Work) { w.Heap.Space = 1 - w.Heap.Space },
 	func(w *evacuate.Work) { w.Heap.Pages = slices.Repeat([]api.Page{{Kind: 1, Used: 16}}, 8) },
@@ -756,14 +693,14 @@ func TestStrangeWorks(t *testing.T) {
 	for _, f := range strange {
 		for _, g := range strange {
 			for steps := range 3 {
-				w := rooted(t, begin(t, ordinary(0)), []uint64{4112, 4106}, []uint64{4112, 4160})
+				w := rooted(t, begin(t, heaptest.Ordinary(0)), []uint64{4112, 4106}, []uint64{4112, 4160})
 				for range steps {
 					w = stepped(t, w)
 				}
 				f(&w)
 				g(&w)
 				roots(t, w, nil)
-				for _, ref := range append(append([]uint64{0}, noObjects...), ordinary(0).addresses()...) {
+				for _, ref := range append(append([]uint64{0}, heaptest.NoObjects()...), heaptest.Ordinary(0).Addresses()...) {
 					roots(t, w, []uint64{ref, 4096})
 				}
 				step(t, w)
