@@ -37,11 +37,10 @@ func equal(t *testing.T, got, want result) {
 // are, and that the results are zero together with an error.
 func collected(t *testing.T, h api.Heap, strong, weak []uint64) result {
 	t.Helper()
-	h, strong, weak = heaptest.RoomyHeap(h), heaptest.Roomy(strong, 77), heaptest.Roomy(weak, 77)
-	before, s, w := heaptest.WholeHeap(h), heaptest.Whole(strong), heaptest.Whole(weak)
+	h, roots, same := heaptest.Guarded(h, strong, weak)
 	var got result
-	got.heap, got.strong, got.weak, got.report, got.e = collect.Collect(h, strong, weak)
-	if !heaptest.SameHeap(heaptest.WholeHeap(h), before) || !slices.Equal(heaptest.Whole(strong), s) || !slices.Equal(heaptest.Whole(weak), w) {
+	got.heap, got.strong, got.weak, got.report, got.e = collect.Collect(h, roots[0], roots[1])
+	if !same() {
 		t.Fatal("the arguments have changed")
 	}
 	if got.e != api.OK {
@@ -514,41 +513,7 @@ func TestNoRoom(t *testing.T) {
 // 12.2: heaps that are not proper, with roots that are references and others,
 // and with other findings.
 func TestHeapsThatAreNotProper(t *testing.T) {
-	for k, spoil := range []func(h *api.Heap){
-		func(h *api.Heap) { *h = api.Heap{} },
-		func(h *api.Heap) { h.Conf.PageWords = 12 },
-		func(h *api.Heap) { h.Conf.PageWords = 68 },
-		func(h *api.Heap) { h.Conf.PageWords = 18 },
-		func(h *api.Heap) { h.Conf.Pages = 7 },
-		func(h *api.Heap) { h.Conf.Pages = 65 },
-		func(h *api.Heap) { h.Conf.Pages = 9 },
-		func(h *api.Heap) { h.Words = h.Words[:127] },
-		func(h *api.Heap) { h.Words = append(h.Words, 0) },
-		func(h *api.Heap) { h.Pages = h.Pages[:7] },
-		func(h *api.Heap) { h.Pages = append(h.Pages, api.Page{}) },
-		func(h *api.Heap) { h.Space = 2 },
-		func(h *api.Heap) { h.Space = -1 },
-		func(h *api.Heap) { h.Bump = -2 },
-		func(h *api.Heap) { h.Bump = 8 },
-		func(h *api.Heap) { h.Bump = 1 }, // a LargePage
-		func(h *api.Heap) { h.Bump = 2 }, // a TailPage
-		func(h *api.Heap) { h.Bump = 4 }, // a FreePage
-		func(h *api.Heap) { h.Pages[4].Used = 1 },
-		func(h *api.Heap) { h.Pages[4].Kind = 4 },
-		func(h *api.Heap) { h.Pages[4].Kind = -1 },
-		func(h *api.Heap) { h.Pages[4].Kind = api.TailPage },
-		func(h *api.Heap) { h.Pages[0].Space = 2 },
-		func(h *api.Heap) { h.Pages[0].Used = 17 },
-		func(h *api.Heap) { h.Pages[0].Used = -1 },
-		func(h *api.Heap) { h.Pages[3].Pins = -1 },
-		func(h *api.Heap) { h.Pages[3].Pins = math.MaxInt32 + 1 },
-		func(h *api.Heap) { h.Pages[1].Used = 4 },
-		func(h *api.Heap) { h.Pages[1].Used = 16 },
-		func(h *api.Heap) { h.Pages[2] = api.Page{} },
-		func(h *api.Heap) { h.Pages[2].Space = 1 },
-	} {
-		h := heaptest.Ordinary(0).Heap()
-		spoil(&h)
+	for k, h := range heaptest.NotProper() {
 		if page.Proper(h) {
 			t.Fatalf("heap %d is proper", k)
 		}
@@ -571,37 +536,8 @@ func TestHeapsThatAreNotProper(t *testing.T) {
 // 12.2: proper heaps that are not good, with roots that are references and
 // others, and without room for copies.
 func TestHeapsThatAreNotGood(t *testing.T) {
-	for k, spoil := range []func(h *api.Heap){
-		func(h *api.Heap) { h.Space = 1 },
-		func(h *api.Heap) { h.Pages[0].Space = 1 },
-		func(h *api.Heap) { h.Pages[1].Space, h.Pages[2].Space = 1, 1 },
-		func(h *api.Heap) { h.Pages[6].Space = 1 },
-		func(h *api.Heap) { h.Words[0] = 0 },
-		func(h *api.Heap) { h.Words[0] = 2 + 4*4160 }, // a forwarding word
-		func(h *api.Heap) { h.Pages[0].Used = 13 },
-		func(h *api.Heap) { h.Pages[0].Used = 15 },
-		func(h *api.Heap) { h.Words[0] = 1 + 3<<2 + 4<<4 }, // not small
-		func(h *api.Heap) { h.Words[96] = 1 + 15<<4 },      // a large Filler
-		func(h *api.Heap) { h.Words[14] = 1 },              // behind the objects of a page
-		func(h *api.Heap) { h.Words[64] = 1 },              // on a FreePage
-		func(h *api.Heap) { h.Words[127] = 1 },             // on the last one
-		func(h *api.Heap) { h.Words[5] = 1 },               // in a Filler
-		func(h *api.Heap) { h.Words[36] = 1 },              // behind a large object
-		func(h *api.Heap) { h.Words[1] = 4103 },            // a pointer to a field
-		func(h *api.Heap) { h.Words[1] = 4100 },            // to a Filler
-		func(h *api.Heap) { h.Words[55] = 4160 },           // to a FreePage
-		func(h *api.Heap) { h.Words[81] = 1 },              // to no address
-		func(h *api.Heap) { h.Pages[0].Pins = 1 },          // the third of eight pages
-		func(h *api.Heap) { h.Pages[5].Pins = 1 },
-	} {
-		h := heaptest.Ordinary(0).Heap()
-		h.Pages[7] = api.Page{Kind: 1, Pins: 1} // a second SmallPage with pins
-		if f := audit.Check(h); f != (audit.Finding{}) {
-			t.Fatalf("%v", f)
-		}
-		fails(t, h, nil, nil, api.OK)
-		h.Bump = 7
-		spoil(&h)
+	fails(t, heaptest.Crowded(), []uint64{4096}, nil, api.OK)
+	for k, h := range heaptest.NotGood() {
 		if !page.Proper(h) || audit.Good(h) {
 			t.Fatalf("heap %d is not proper, or good", k)
 		}
@@ -684,25 +620,10 @@ func TestNewMemory(t *testing.T) {
 		{scene{Conf: heaptest.Conf, Things: []thing{heaptest.Refs(0, make([]uint64, 15)...)}}.Heap(), []uint64{4096}, []uint64{4096}},
 		{empty, []uint64{0}, []uint64{0, 0, 0}},
 	} {
-		h, s, w := heaptest.RoomyHeap(x.h), heaptest.Roomy(x.strong, 77), heaptest.Roomy(x.weak, 77)
-		before, s0, w0 := heaptest.WholeHeap(h), heaptest.Whole(s), heaptest.Whole(w)
-		heap, strong, weak, _, _ := collect.Collect(h, s, w)
-		marks := map[uint64][]uint64{1: heap.Words, 2: strong, 3: weak}
-		for v, l := range marks {
-			for i := range l[:cap(l)] {
-				l[:cap(l)][i] = v
-			}
-		}
-		for i := range heap.Pages[:cap(heap.Pages)] {
-			heap.Pages[:cap(heap.Pages)][i] = api.Page{Kind: 88}
-		}
-		if !heaptest.SameHeap(heaptest.WholeHeap(h), before) || !slices.Equal(heaptest.Whole(s), s0) || !slices.Equal(heaptest.Whole(w), w0) {
-			t.Error("the results share memory with the arguments")
-		}
-		for v, l := range marks {
-			if slices.ContainsFunc(l, func(w uint64) bool { return w != v }) {
-				t.Error("two slices of the results share memory")
-			}
+		h, roots, same := heaptest.Guarded(x.h, x.strong, x.weak)
+		heap, strong, weak, _, _ := collect.Collect(h, roots[0], roots[1])
+		if !heaptest.Overwrite(heap, strong, weak) || !same() {
+			t.Errorf("the results for roots %v and %v share memory", x.strong, x.weak)
 		}
 	}
 }
@@ -735,22 +656,7 @@ func TestStrangeHeaps(t *testing.T) {
 		x := heaptest.Numbers(seed + 1)
 		s := x.Scene()
 		h := s.Heap()
-		for range 1 + x.Below(3) {
-			switch x.Below(6) {
-			case 0:
-				h.Words[x.Below(len(h.Words))] = uint64(x.Below(9000))
-			case 1:
-				h.Pages[x.Below(len(h.Pages))] = api.Page{Kind: x.Below(4), Space: x.Below(2), Used: x.Below(20), Pins: x.Below(2)}
-			case 2:
-				h.Pages[x.Below(len(h.Pages))].Pins++
-			case 3:
-				h.Pages[x.Below(len(h.Pages))].Used += x.Below(3) - 1
-			case 4:
-				h.Bump = x.Below(len(h.Pages)+2) - 1
-			case 5:
-				h.Space = x.Below(3)
-			}
-		}
+		x.Spoil(&h)
 		at := s.Addresses()
 		strong, weak := heaptest.ValuesOf(at, x.Refs(s, 3)), heaptest.ValuesOf(at, x.Refs(s, 3))
 		weak = append(weak, uint64(4096+x.Below(2*len(h.Words))))

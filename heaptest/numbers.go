@@ -103,3 +103,24 @@ func (x *Numbers) Refs(s Scene, n int) []uint64 {
 	}
 	return l
 }
+
+// Spoil changes one to three things in the heap of a scene, after which it may
+// be as strange as can be.
+func (x *Numbers) Spoil(h *api.Heap) {
+	for range 1 + x.Below(3) {
+		switch x.Below(6) {
+		case 0:
+			h.Words[x.Below(len(h.Words))] = uint64(x.Below(9000))
+		case 1:
+			h.Pages[x.Below(len(h.Pages))] = api.Page{Kind: x.Below(4), Space: x.Below(2), Used: x.Below(20), Pins: x.Below(2)}
+		case 2:
+			h.Pages[x.Below(len(h.Pages))].Pins++
+		case 3:
+			h.Pages[x.Below(len(h.Pages))].Used += x.Below(3) - 1
+		case 4:
+			h.Bump = x.Below(len(h.Pages)+2) - 1
+		case 5:
+			h.Space = x.Below(3)
+		}
+	}
+}
