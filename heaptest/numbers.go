@@ -104,6 +104,18 @@ func (x *Numbers) Refs(s Scene, n int) []uint64 {
 	return l
 }
 
+// SomeRefs returns about n references without a scene, seldom with a null one.
+func (x *Numbers) SomeRefs(n int) []uint64 {
+	if x.Below(4) == 0 {
+		n = max(n+x.Below(3)-1, 0)
+	}
+	l := make([]uint64, n)
+	for k := range l {
+		l[k] = uint64(x.Below(40))
+	}
+	return l
+}
+
 // Spoil changes one to three things in the heap of a scene, after which it may
 // be as strange as can be.
 func (x *Numbers) Spoil(h *api.Heap) {

@@ -97,7 +97,7 @@ func (p *play) step(x *heaptest.Numbers) {
 	case 7, 8:
 		p.delete(p.handle(x))
 	case 9:
-		p.move(someRefs(x, len(p.m.refs())))
+		p.move(x.SomeRefs(len(p.m.refs())))
 	default:
 		p.new(uint64(x.Below(20)))
 	}
@@ -110,18 +110,6 @@ func (p *play) handle(x *heaptest.Numbers) (index, stamp int) {
 		return x.Below(6) - 1, stamp
 	}
 	return p.m.of(stamp).index, stamp
-}
-
-// someRefs returns about n references, seldom with a null one.
-func someRefs(x *heaptest.Numbers, n int) []uint64 {
-	if x.Below(4) == 0 {
-		n = max(n+x.Below(3)-1, 0)
-	}
-	l := make([]uint64, n)
-	for k := range l {
-		l[k] = uint64(x.Below(40))
-	}
-	return l
 }
 
 // 14.6, and 14.2 to 14.5: whatever has been done before, each pair of numbers
