@@ -111,3 +111,23 @@ func WholeHeap(h api.Heap) api.Heap {
 	h.Words, h.Pages = Whole(h.Words), Whole(h.Pages)
 	return h
 }
+
+// WithPins returns a heap in which the Pins of all pages are the sums of the
+// Counts of pins, as far as a Ref is on a page that can have them.
+func WithPins(h api.Heap, pins ...api.Pin) api.Heap {
+	h.Words, h.Pages = slices.Clone(h.Words), slices.Clone(h.Pages)
+	for i := range h.Pages {
+		p := &h.Pages[i]
+		p.Pins = 0
+		if p.Kind != api.SmallPage && p.Kind != api.LargePage {
+			continue
+		}
+		from := uint64(4096 + i*h.Conf.PageWords)
+		for _, x := range pins {
+			if x.Ref >= from && x.Ref < from+uint64(h.Conf.PageWords) {
+				p.Pins += x.Count
+			}
+		}
+	}
+	return h
+}

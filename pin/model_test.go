@@ -165,23 +165,9 @@ func loaded(t *testing.T, s state, addr uint64) (uint64, api.Errno) {
 	return v, e
 }
 
-// fits returns the state of these pins in a heap in which the Pins of all pages
-// are the sums of their Counts, as far as a Ref is on a page that can have pins.
+// fits returns the state of these pins in a heap that has as many as they are.
 func fits(h api.Heap, pins ...api.Pin) state {
-	s := copied(state{h, pins})
-	for i, p := range h.Pages {
-		s.heap.Pages[i].Pins = 0
-		if p.Kind != api.SmallPage && p.Kind != api.LargePage {
-			continue
-		}
-		from := uint64(4096 + i*h.Conf.PageWords)
-		for _, p := range pins {
-			if p.Ref >= from && p.Ref < from+uint64(h.Conf.PageWords) {
-				s.heap.Pages[i].Pins += p.Count
-			}
-		}
-	}
-	return s
+	return state{heaptest.WithPins(h, pins...), slices.Clone(pins)}
 }
 
 // one is a pin with Count 1.
