@@ -5,6 +5,7 @@ import (
 
 	"semispace/api"
 	"semispace/env"
+	"semispace/envtest"
 	"semispace/heaptest"
 )
 
@@ -20,43 +21,17 @@ func allocates(t *testing.T, x api.Env, hd api.Header) (api.Env, uint64, bool, a
 	return want, r.addr, full, e
 }
 
-// pages01 is the heap of narrow and of others: as many pages are in use as may
-// be, with the objects at 4096 and 4099 on page 0, and those at 4112, 4115, 4119
-// and 4123 on page 1. The first one refers to that at 4112. One word is free on
-// page 1.
-func pages01() api.Heap {
-	return heaptest.Scene{Conf: heaptest.Conf, Things: []heaptest.Thing{
-		heaptest.Refs(0, 3, 0), heaptest.Words(0, 5, 6, 7),
-		heaptest.Words(1, 8, 9), heaptest.Words(1, 1, 2, 3), heaptest.Words(1, 4, 5, 6), heaptest.Words(1, 7, 8, 9),
-	}}.Heap()
-}
-
-// narrow is an environment with little room. Its strong roots are 4096, 0, 4115,
-// 4112 and, without a pin, no others.
-func narrow() api.Env {
-	return api.Env{
-		Heap: pages01(),
-		Locals: api.Locals{
-			Slots:  []api.Slot{{Stamp: 1}, {Stamp: 2, Ref: 4115, Live: true}},
-			Scopes: []api.Scope{{Cap: 1, Base: true}}, Issued: []int{0, 1},
-		},
-		Globals: api.Table{Entries: []api.Entry{live(3, 4112)}},
-		Weaks:   api.Table{Entries: []api.Entry{live(1, 4119), live(2, 4096), dead(1), live(1, 4123)}},
-		Roots:   []uint64{4096, 0},
-	}
-}
-
 // 18.4: with room, nothing but the heap changes, and no handle is cleared.
 func TestAllocWithRoom(t *testing.T) {
-	want := narrow()
+	want := envtest.Narrow()
 	want.Heap.Words[31], want.Heap.Pages[1].Used = 1+3<<2, 16
-	becomes(t, narrow(), allocating(words(1)), want, result{addr: 4127}, api.OK)
-	if _, _, full, e := allocates(t, narrow(), words(1)); full || e != api.OK {
+	becomes(t, envtest.Narrow(), allocating(words(1)), want, result{addr: 4127}, api.OK)
+	if _, _, full, e := allocates(t, envtest.Narrow(), words(1)); full || e != api.OK {
 		t.Errorf("%v, error %d", full, e)
 	}
 	for size := 1; size <= 32; size++ {
 		for _, kind := range []int{api.Words, api.Refs} {
-			out, addr, full, e := allocates(t, empty(), api.Header{Kind: kind, Length: size - 1})
+			out, addr, full, e := allocates(t, envtest.Empty(), api.Header{Kind: kind, Length: size - 1})
 			if addr != 4096 || full || e != api.OK || len(strong(t, out)) > 0 {
 				t.Errorf("%d words: %d, error %d", size, addr, e)
 			}
@@ -67,8 +42,8 @@ func TestAllocWithRoom(t *testing.T) {
 // 18.4: without room, all roots are the new ones, and the handles of what is
 // gone are cleared.
 func TestAllocWithCollection(t *testing.T) {
-	want := narrow()
-	want.Heap = empty().Heap
+	want := envtest.Narrow()
+	want.Heap = envtest.Empty().Heap
 	copy(want.Heap.Words[32:], []uint64{
 		1 + 2<<2 + 2<<4, 4135, 0, // 4096
 		1 + 3<<2 + 3<<4, 1, 2, 3, // 4115
@@ -78,10 +53,10 @@ func TestAllocWithCollection(t *testing.T) {
 	want.Heap.Pages[2] = api.Page{Kind: api.SmallPage, Space: 1, Used: 13}
 	want.Heap.Space, want.Heap.Bump = 1, 2
 	want.Roots[0], want.Locals.Slots[1].Ref, want.Globals.Entries[0].Ref = 4128, 4131, 4135
-	want.Weaks.Entries = []api.Entry{live(1, 0), live(2, 4128), dead(1), live(1, 0)}
-	becomes(t, narrow(), allocating(words(3)), want, result{addr: 4138}, api.OK)
+	want.Weaks.Entries = []api.Entry{envtest.Live(1, 0), envtest.Live(2, 4128), envtest.Dead(1), envtest.Live(1, 0)}
+	becomes(t, envtest.Narrow(), allocating(words(3)), want, result{addr: 4138}, api.OK)
 	for _, size := range []int{2, 3, 4, 5, 16} {
-		if _, _, full, e := allocates(t, narrow(), words(size)); !full || e != api.OK {
+		if _, _, full, e := allocates(t, envtest.Narrow(), words(size)); !full || e != api.OK {
 			t.Errorf("%d words: %v, error %d", size, full, e)
 		}
 	}
@@ -89,28 +64,28 @@ func TestAllocWithCollection(t *testing.T) {
 
 // 18.4: pins are strong roots of the collection, too.
 func TestAllocWithPins(t *testing.T) {
-	x := narrow()
+	x := envtest.Narrow()
 	x.Pins = []api.Pin{{Ref: 4119, Count: 2}}
 	x.Heap = heaptest.WithPins(x.Heap, x.Pins...)
 	out, addr, full, e := allocates(t, x, words(3))
-	if addr != 4131 || !full || e != api.OK || out.Pins[0] != x.Pins[0] || out.Weaks.Entries[0] != live(1, 4119) {
+	if addr != 4131 || !full || e != api.OK || out.Pins[0] != x.Pins[0] || out.Weaks.Entries[0] != envtest.Live(1, 4119) {
 		t.Errorf("%d, %v, error %d, %s", addr, full, e, show(out))
 	}
-	if out.Roots[0] != 4128 || out.Locals.Slots[1].Ref != 4115 || out.Globals.Entries[0].Ref != 4112 || out.Weaks.Entries[3] != live(1, 0) {
+	if out.Roots[0] != 4128 || out.Locals.Slots[1].Ref != 4115 || out.Globals.Entries[0].Ref != 4112 || out.Weaks.Entries[3] != envtest.Live(1, 0) {
 		t.Errorf("%s", show(out))
 	}
 }
 
-// all are the addresses of all objects of narrow.
+// all are the addresses of all objects of envtest.NarrowHeap.
 func all() []uint64 { return []uint64{4096, 4099, 4112, 4115, 4119, 4123} }
 
 // 18.4: no room after the collection, either.
 func TestAllocWithoutRoom(t *testing.T) {
-	x := with(pages01(), all()...)
+	x := envtest.With(envtest.NarrowHeap(), all()...)
 	for size := 9; size <= 64; size++ {
 		refuses(t, x, allocating(words(size)), api.ErrMemory)
 	}
-	refuses(t, narrow(), allocating(words(17)), api.ErrMemory) // it would need two pages
+	refuses(t, envtest.Narrow(), allocating(words(17)), api.ErrMemory) // it would need two pages
 	x, addr, full, e := allocates(t, x, words(4))
 	if addr != 4152 || !full || e != api.OK { // behind the copies of the last two
 		t.Fatalf("%d, %v, error %d", addr, full, e)
@@ -132,7 +107,7 @@ func TestAllocWithoutRoom(t *testing.T) {
 // has no room.
 func TestAllocWithFailingCollection(t *testing.T) {
 	for n := range 2 {
-		x := with(heaptest.WithPins(heaptest.Full(n).Heap()), 4096, 4100, 4104, 4108, 4112, 4116)
+		x := envtest.With(heaptest.WithPins(heaptest.Full(n).Heap()), 4096, 4100, 4104, 4108, 4112, 4116)
 		refuses(t, x, allocating(words(2)), api.ErrMemory)
 		refuses(t, x, allocating(words(65)), api.ErrArg)
 	}
@@ -150,7 +125,7 @@ func wrong() []api.Header {
 // 18.4: headers that cannot be asked for, with room, after a collection and
 // without any room; and the greatest ones that can.
 func TestAllocErrors(t *testing.T) {
-	for _, x := range []api.Env{empty(), narrow(), with(pages01(), all()...), ordinary()} {
+	for _, x := range []api.Env{envtest.Empty(), envtest.Narrow(), envtest.With(envtest.NarrowHeap(), all()...), envtest.Ordinary()} {
 		for _, hd := range wrong() {
 			refuses(t, x, allocating(hd), api.ErrArg)
 		}
@@ -177,7 +152,7 @@ func TestAllocErrors(t *testing.T) {
 func TestAllocIrregular(t *testing.T) {
 	for seed := range 300 {
 		x := heaptest.Numbers(seed + 1)
-		y := irregular(&x)
+		y := envtest.Irregular(&x)
 		allocates(t, y, api.Header{Kind: 1 + x.Below(3), Length: x.Below(60)})
 	}
 }

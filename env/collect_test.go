@@ -5,6 +5,7 @@ import (
 	"testing"
 
 	"semispace/api"
+	"semispace/envtest"
 	"semispace/graph"
 	"semispace/heaptest"
 	"semispace/page"
@@ -50,14 +51,14 @@ func keepsOnly(t *testing.T, x api.Env) {
 	}
 }
 
-// collectedOrdinary is ordinary after a collection: the copies of what was at
-// 4096, 4106, 4179, 4104, 4102 and 4176 are on page 4, in this order.
+// collectedOrdinary is envtest.Ordinary after a collection: the copies of what
+// was at 4096, 4106, 4179, 4104, 4102 and 4176 are on page 4, in this order.
 func collectedOrdinary() api.Env {
-	x := ordinary()
+	x := envtest.Ordinary()
 	at := map[uint64]uint64{4096: 4160, 4106: 4164, 4179: 4168, 4104: 4170, 4102: 4171, 4176: 4173}
 	for old, ref := range at { // the fields of all that stays
 		for _, i := range []int{17, 18, 19, 20, 21, 35, 50, 55} {
-			if ordinary().Heap.Words[i] == old {
+			if envtest.Ordinary().Heap.Words[i] == old {
 				x.Heap.Words[i] = ref
 			}
 		}
@@ -79,17 +80,17 @@ func collectedOrdinary() api.Env {
 	}
 	x.Heap.Space, x.Heap.Bump = 1, 4
 	x.Roots = []uint64{4160, 0, 4144, 4160}
-	x.Locals = locals(4164, 4168, 4112, 4164)
-	x.Globals.Entries = []api.Entry{dead(4), live(1, 4147), dead(maxGen), live(7, 4170)}
-	x.Weaks.Entries = []api.Entry{live(1, 0), live(2, 4160), dead(1), live(3, 0), live(maxGen, 4171), live(1, 4112), live(5, 0)}
+	x.Locals = envtest.Locals(4164, 4168, 4112, 4164)
+	x.Globals.Entries = []api.Entry{envtest.Dead(4), envtest.Live(1, 4147), envtest.Dead(envtest.MaxGen), envtest.Live(7, 4170)}
+	x.Weaks.Entries = []api.Entry{envtest.Live(1, 0), envtest.Live(2, 4160), envtest.Dead(1), envtest.Live(3, 0), envtest.Live(envtest.MaxGen, 4171), envtest.Live(1, 4112), envtest.Live(5, 0)}
 	return x
 }
 
 // 18.3: all that a collection changes, and what it does not.
 func TestCollect(t *testing.T) {
 	want := result{report: api.Report{Copied: 6, Kept: 5, Freed: 2, Cleared: 2, Steps: 40}}
-	becomes(t, ordinary(), collecting, collectedOrdinary(), want, api.OK)
-	collects(t, ordinary())
+	becomes(t, envtest.Ordinary(), collecting, collectedOrdinary(), want, api.OK)
+	collects(t, envtest.Ordinary())
 	collects(t, collectedOrdinary())
 }
 
@@ -100,7 +101,7 @@ func TestEachKindOfRoot(t *testing.T) {
 	local := api.Locals{
 		Slots: []api.Slot{{Stamp: 1, Ref: 4179, Live: true}}, Scopes: []api.Scope{{Cap: 1, Base: true}}, Issued: []int{0},
 	}
-	table := api.Table{Entries: []api.Entry{live(1, 4179)}}
+	table := api.Table{Entries: []api.Entry{envtest.Live(1, 4179)}}
 	pins := []api.Pin{{Ref: 4179, Count: 2}}
 	for k, x := range []api.Env{
 		{Heap: h, Roots: []uint64{4179}}, {Heap: h, Locals: local}, {Heap: h, Globals: table}, {Heap: heaptest.WithPins(h, pins...), Pins: pins},
@@ -113,14 +114,14 @@ func TestEachKindOfRoot(t *testing.T) {
 		if l := strong(t, out); !slices.Equal(l, []uint64{ref}) || r.Copied+r.Kept != 3 || e != api.OK {
 			t.Errorf("%d: %v, %v, error %d", k, l, r, e)
 		}
-		x.Weaks = api.Table{Entries: []api.Entry{live(1, 4179), live(1, 4112), live(1, 4192), live(1, 4176)}}
+		x.Weaks = api.Table{Entries: []api.Entry{envtest.Live(1, 4179), envtest.Live(1, 4112), envtest.Live(1, 4192), envtest.Live(1, 4176)}}
 		out, r, e = collects(t, x)
 		if l := weakOf(out); l[0] != ref || l[1] != 0 || l[2] != 4192 || l[3] == 0 || r.Cleared != 1 || e != api.OK {
 			t.Errorf("%d: weak handles of %v, %v, error %d", k, l, r, e)
 		}
 	}
 	x := api.Env{Heap: h, Weaks: table}
-	if out, r, e := collects(t, x); out.Weaks.Entries[0] != live(1, 0) || r.Cleared != 1 || r.Copied+r.Kept > 0 || e != api.OK {
+	if out, r, e := collects(t, x); out.Weaks.Entries[0] != envtest.Live(1, 0) || r.Cleared != 1 || r.Copied+r.Kept > 0 || e != api.OK {
 		t.Errorf("only a weak handle: %v, %v, error %d", out.Weaks, r, e)
 	}
 }
@@ -128,10 +129,10 @@ func TestEachKindOfRoot(t *testing.T) {
 // 18.3: a weak handle that has been cleared stays Live, and null, whatever comes
 // to the place where its object was.
 func TestClearedStays(t *testing.T) {
-	x := ordinary()
+	x := envtest.Ordinary()
 	for range 4 {
 		out, r := done(t, x, collecting)
-		if out.Weaks.Entries[0] != live(1, 0) || out.Weaks.Entries[3] != live(3, 0) {
+		if out.Weaks.Entries[0] != envtest.Live(1, 0) || out.Weaks.Entries[3] != envtest.Live(3, 0) {
 			t.Fatalf("%v", out.Weaks)
 		}
 		if again := x.Weaks.Entries[0].Ref == 0; again != (r.report.Cleared == 0) {
@@ -143,10 +144,10 @@ func TestClearedStays(t *testing.T) {
 
 // 18.3: the environment without anything, and those next to the limits.
 func TestCollectLimits(t *testing.T) {
-	want := empty()
+	want := envtest.Empty()
 	want.Heap.Space = 1
-	becomes(t, empty(), collecting, want, result{}, api.OK)
-	for k, x := range alsoValid() {
+	becomes(t, envtest.Empty(), collecting, want, result{}, api.OK)
+	for k, x := range envtest.Allowed() {
 		if _, _, e := collects(t, x); e != api.OK {
 			t.Errorf("%d: error %d", k, e)
 		}
@@ -158,7 +159,7 @@ func TestCollectLimits(t *testing.T) {
 func TestCollectWithoutRoom(t *testing.T) {
 	for n := range 3 {
 		h := heaptest.WithPins(heaptest.Full(n).Heap())
-		x := with(h, 4096, 4100, 4104, 4108, 4112, 4116)
+		x := envtest.With(h, 4096, 4100, 4104, 4108, 4112, 4116)
 		want := []api.Errno{api.ErrMemory, api.ErrMemory, api.OK}[n]
 		if _, _, e := collects(t, x); e != want {
 			t.Errorf("%d free pages: error %d, want %d", n, e, want)
@@ -173,7 +174,7 @@ func TestCollectIrregular(t *testing.T) {
 	results := map[api.Errno]int{}
 	for seed := range 400 {
 		x := heaptest.Numbers(seed + 1)
-		y := irregular(&x)
+		y := envtest.Irregular(&x)
 		for range 3 {
 			out, _, e := collects(t, y)
 			results[e]++
@@ -193,7 +194,7 @@ func TestCollectNew(t *testing.T) {
 	for words := 16; words <= 64; words += 4 {
 		for pages := 8; pages <= 64; pages++ {
 			h, _ := page.New(api.Conf{PageWords: words, Pages: pages})
-			if _, _, e := collects(t, with(h, 0, 0)); e != api.OK {
+			if _, _, e := collects(t, envtest.With(h, 0, 0)); e != api.OK {
 				t.Errorf("%d words, %d pages: error %d", words, pages, e)
 			}
 		}

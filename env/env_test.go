@@ -7,14 +7,10 @@ import (
 
 	"semispace/api"
 	"semispace/env"
+	"semispace/envtest"
 	"semispace/heaptest"
 	"semispace/page"
 )
-
-// word is the word of a handle.
-func word(tag, index, stamp int) uint64 {
-	return uint64(tag) + uint64(index)<<2 + uint64(stamp)<<18
-}
 
 // resolves checks what a word refers to.
 func resolves(t *testing.T, x api.Env, w, want uint64, wantError api.Errno) {
@@ -26,9 +22,9 @@ func resolves(t *testing.T, x api.Env, w, want uint64, wantError api.Errno) {
 
 // The examples of chapter 18.
 func TestExamples(t *testing.T) {
-	x := ordinary()
+	x := envtest.Ordinary()
 	resolves(t, x, 0, 0, api.OK)
-	w := word(api.Weak, 0, 1)
+	w := envtest.Word(api.Weak, 0, 1)
 	resolves(t, x, w, 4105, api.OK)
 	x, _ = done(t, x, collecting) // after which its object is gone
 	resolves(t, x, w, 0, api.OK)
@@ -41,15 +37,15 @@ func TestNew(t *testing.T) {
 			c := api.Conf{PageWords: words, Pages: pages}
 			x, e := env.New(c)
 			if h, _ := page.New(c); page.ValidConf(c) {
-				if e != api.OK || !same(x, api.Env{Heap: h}) || !valid(t, x) {
+				if e != api.OK || !envtest.Same(x, api.Env{Heap: h}) || !valid(t, x) {
 					t.Errorf("%v: error %d, %s", c, e, show(x))
 				}
-			} else if e != api.ErrArg || !same(x, api.Env{}) {
+			} else if e != api.ErrArg || !envtest.Same(x, api.Env{}) {
 				t.Errorf("%v: error %d, %s", c, e, show(x))
 			}
 		}
 	}
-	if x, _ := env.New(heaptest.Conf); !same(x, empty()) {
+	if x, _ := env.New(heaptest.Conf); !envtest.Same(x, envtest.Empty()) {
 		t.Errorf("%s", show(x))
 	}
 }
@@ -58,22 +54,22 @@ func TestNew(t *testing.T) {
 // them. Neither deleted nor weak handles are.
 func TestStrong(t *testing.T) {
 	want := []uint64{4096, 0, 4144, 4096, 4106, 4179, 4112, 4106, 4147, 4104, 4147, 4192, 4150}
-	if l := strong(t, ordinary()); !slices.Equal(l, want) {
+	if l := strong(t, envtest.Ordinary()); !slices.Equal(l, want) {
 		t.Errorf("%v, want %v", l, want)
 	}
-	if l := strong(t, empty()); len(l) > 0 {
+	if l := strong(t, envtest.Empty()); len(l) > 0 {
 		t.Errorf("%v", l)
 	}
 	for k, part := range [][]uint64{want[:4], want[4:8], want[8:10], want[10:]} {
 		only := []api.Env{
-			{Roots: ordinary().Roots}, {Locals: ordinary().Locals}, {Globals: ordinary().Globals}, {Pins: ordinary().Pins},
+			{Roots: envtest.Ordinary().Roots}, {Locals: envtest.Ordinary().Locals}, {Globals: envtest.Ordinary().Globals}, {Pins: envtest.Ordinary().Pins},
 		}[k]
-		only.Heap, only.Weaks = ordinary().Heap, ordinary().Weaks
+		only.Heap, only.Weaks = envtest.Ordinary().Heap, envtest.Ordinary().Weaks
 		if l := strong(t, only); !slices.Equal(l, part) {
 			t.Errorf("%d: %v, want %v", k, l, part)
 		}
 	}
-	x := fullHouse()
+	x := envtest.FullHouse()
 	if l := strong(t, x); len(l) != 4096+64+64 || !slices.Equal(l, strongOf(x)) {
 		t.Errorf("%v", l)
 	}
@@ -83,17 +79,17 @@ func TestStrong(t *testing.T) {
 func TestStrongIrregular(t *testing.T) {
 	for seed := range 300 {
 		x := heaptest.Numbers(seed + 1)
-		y := irregular(&x)
+		y := envtest.Irregular(&x)
 		if l, want := strong(t, y), strongOf(y); !slices.Equal(l, want) {
 			t.Fatalf("%v, want %v", l, want)
 		}
 	}
 }
 
-// 18.5: what each handle of ordinary refers to. The tags tell handles apart that
-// have the same index and stamp.
+// 18.5: what each handle of envtest.Ordinary refers to. The tags tell handles
+// apart that have the same index and stamp.
 func TestResolve(t *testing.T) {
-	x := ordinary()
+	x := envtest.Ordinary()
 	resolves(t, x, 0, 0, api.OK)
 	for _, y := range []struct {
 		tag, index, stamp int
@@ -110,18 +106,18 @@ func TestResolve(t *testing.T) {
 		{api.Local, 5, 8, 0, api.ErrForged},
 		{api.Local, 1, 1, 0, api.ErrForged},
 		{api.Local, 0, 2, 0, api.ErrForged},
-		{api.Local, 0, maxGen, 0, api.ErrForged},
+		{api.Local, 0, envtest.MaxGen, 0, api.ErrForged},
 		{api.Local, 65535, 1, 0, api.ErrForged},
 		{api.Global, 0, 1, 0, api.ErrDeleted},
 		{api.Global, 0, 4, 0, api.ErrDeleted},
 		{api.Global, 0, 5, 0, api.ErrForged},
 		{api.Global, 1, 1, 4147, api.OK},
 		{api.Global, 1, 2, 0, api.ErrForged},
-		{api.Global, 2, maxGen, 0, api.ErrDeleted},
+		{api.Global, 2, envtest.MaxGen, 0, api.ErrDeleted},
 		{api.Global, 3, 7, 4104, api.OK},
 		{api.Global, 3, 6, 0, api.ErrDeleted},
 		{api.Global, 4, 1, 0, api.ErrForged},
-		{api.Global, 65535, maxGen, 0, api.ErrForged},
+		{api.Global, 65535, envtest.MaxGen, 0, api.ErrForged},
 		{api.Weak, 0, 1, 4105, api.OK},
 		{api.Weak, 1, 2, 4096, api.OK},
 		{api.Weak, 1, 1, 0, api.ErrDeleted},
@@ -129,63 +125,53 @@ func TestResolve(t *testing.T) {
 		{api.Weak, 3, 3, 0, api.OK}, // it has been cleared
 		{api.Weak, 3, 2, 0, api.ErrDeleted},
 		{api.Weak, 3, 4, 0, api.ErrForged},
-		{api.Weak, 4, maxGen, 4102, api.OK},
+		{api.Weak, 4, envtest.MaxGen, 4102, api.OK},
 		{api.Weak, 5, 1, 4112, api.OK},
 		{api.Weak, 6, 5, 4105, api.OK},
 		{api.Weak, 7, 1, 0, api.ErrForged},
 	} {
-		resolves(t, x, word(y.tag, y.index, y.stamp), y.want, y.e)
-	}
-}
-
-// forged are words that are neither 0 nor those of a handle.
-func forged() []uint64 {
-	return []uint64{
-		4, 1 << 18, word(0, 0, 1), word(0, 1, 1), // without a tag
-		1, 2, 3, word(api.Local, 5, 0), word(api.Weak, 65535, 0), // without a stamp
-		word(api.Local, 0, 1) + 1<<50, word(api.Global, 1, 1) + 1<<50, word(api.Weak, 0, 1) + 1<<63, 1 << 50, // with a bit too many
-		4096, 4106, 1<<64 - 1,
+		resolves(t, x, envtest.Word(y.tag, y.index, y.stamp), y.want, y.e)
 	}
 }
 
 // 18.5: words that are no handles, in environments with and without handles.
 func TestResolveForged(t *testing.T) {
-	for _, x := range []api.Env{ordinary(), empty(), fullHouse()} {
-		for _, w := range forged() {
+	for _, x := range []api.Env{envtest.Ordinary(), envtest.Empty(), envtest.FullHouse()} {
+		for _, w := range envtest.Forged() {
 			resolves(t, x, w, 0, api.ErrForged)
 		}
 	}
 	for _, tag := range []int{api.Local, api.Global, api.Weak} {
-		resolves(t, empty(), word(tag, 0, 1), 0, api.ErrForged)
-		resolves(t, fullHouse(), word(tag, 64, 1), 0, api.ErrForged)
+		resolves(t, envtest.Empty(), envtest.Word(tag, 0, 1), 0, api.ErrForged)
+		resolves(t, envtest.FullHouse(), envtest.Word(tag, 64, 1), 0, api.ErrForged)
 	}
 }
 
 // 18.5: all handles that there may be.
 func TestResolveAll(t *testing.T) {
 	at := heaptest.List(65, true).Addresses()
-	x := fullHouse()
+	x := envtest.FullHouse()
 	for k := range 64 {
-		resolves(t, x, word(api.Global, k, maxGen), at[63-k], api.OK)
-		resolves(t, x, word(api.Global, k, maxGen-1), 0, api.ErrDeleted)
-		resolves(t, x, word(api.Weak, k, maxGen), at[64-k], api.OK)
+		resolves(t, x, envtest.Word(api.Global, k, envtest.MaxGen), at[63-k], api.OK)
+		resolves(t, x, envtest.Word(api.Global, k, envtest.MaxGen-1), 0, api.ErrDeleted)
+		resolves(t, x, envtest.Word(api.Weak, k, envtest.MaxGen), at[64-k], api.OK)
 	}
 	for i := 0; i < 4096; i += 117 {
-		resolves(t, x, word(api.Local, i, i+1), at[i%64], api.OK)
-		resolves(t, x, word(api.Local, i, i+2), 0, api.ErrForged)
+		resolves(t, x, envtest.Word(api.Local, i, i+1), at[i%64], api.OK)
+		resolves(t, x, envtest.Word(api.Local, i, i+2), 0, api.ErrForged)
 	}
-	resolves(t, x, word(api.Local, 4095, 4096), at[63], api.OK)
+	resolves(t, x, envtest.Word(api.Local, 4095, 4096), at[63], api.OK)
 }
 
 // 18.3 to 18.5: an environment that is not valid comes first, whatever else is
 // wrong.
 func TestCorrupt(t *testing.T) {
 	headers := []api.Header{{Kind: api.Words, Length: 3}, {}, {Kind: api.Words, Length: 255}, {Kind: 4}, {Kind: api.Refs, Length: -1}}
-	for k, x := range corrupt() {
+	for k, x := range envtest.Corrupt() {
 		refuses(t, x, collecting, api.ErrCorrupt)
 		refuses(t, x, allocating(headers[k%len(headers)]), api.ErrCorrupt)
 		refuses(t, x, allocating(headers[0]), api.ErrCorrupt)
-		words := []uint64{0, word(api.Local, 0, 1), word(api.Weak, 3, 3), forged()[k%len(forged())], word(api.Global, 9, 9), word(api.Local, 1, 2)}
+		words := []uint64{0, envtest.Word(api.Local, 0, 1), envtest.Word(api.Weak, 3, 3), envtest.Forged()[k%len(envtest.Forged())], envtest.Word(api.Global, 9, 9), envtest.Word(api.Local, 1, 2)}
 		for _, w := range words {
 			if ref, e := resolved(t, x, w); ref != 0 || e != api.ErrCorrupt {
 				t.Errorf("%d: Resolve of %d: %d, error %d", k, w, ref, e)
@@ -197,9 +183,9 @@ func TestCorrupt(t *testing.T) {
 // R5: two calls with the same arguments have the same results.
 func TestSameResults(t *testing.T) {
 	for _, do := range []call{collecting, allocating(words(1)), allocating(words(3))} {
-		x, r := done(t, narrow(), do)
-		done(t, fullHouse(), do)
-		becomes(t, narrow(), do, x, r, api.OK)
+		x, r := done(t, envtest.Narrow(), do)
+		done(t, envtest.FullHouse(), do)
+		becomes(t, envtest.Narrow(), do, x, r, api.OK)
 	}
 }
 
@@ -209,9 +195,9 @@ func TestStrangeEnvironments(t *testing.T) {
 	results := map[bool]int{}
 	for seed := range 1000 {
 		x := heaptest.Numbers(seed + 1)
-		y := irregular(&x)
+		y := envtest.Irregular(&x)
 		for range x.Below(4) {
-			spoil(&x, &y)
+			envtest.Spoil(&x, &y)
 		}
 		if x.Below(5) == 0 {
 			y.Heap.Conf.Pages, y.Heap.Pages = x.Below(9), y.Heap.Pages[:x.Below(len(y.Heap.Pages))]
@@ -225,7 +211,7 @@ func TestStrangeEnvironments(t *testing.T) {
 				t.Fatalf("seed %d: error %d", seed, e)
 			}
 		}
-		w := word(x.Below(4), x.Below(8), x.Below(8))
+		w := envtest.Word(x.Below(4), x.Below(8), x.Below(8))
 		if _, e := resolved(t, y, w); (e == api.ErrCorrupt) == ok {
 			t.Fatalf("seed %d: Resolve of %d: error %d", seed, w, e)
 		}

@@ -9,93 +9,13 @@ import (
 	"semispace/api"
 	"semispace/collect"
 	"semispace/env"
-	"semispace/heaptest"
+	"semispace/envtest"
 )
-
-// maxGen is the last generation.
-const maxGen = 1<<32 - 1
 
 // show is a short form for messages: a heap may have thousands of words.
 func show(x api.Env) string {
 	return fmt.Sprintf("roots %v, locals %v, globals %v, weaks %v, pins %v, pages %v, words %.160v",
 		x.Roots, x.Locals, x.Globals, x.Weaks, x.Pins, x.Heap.Pages, fmt.Sprint(x.Heap.Words))
-}
-
-// same reports whether two environments are equal.
-func same(x, y api.Env) bool {
-	return heaptest.SameHeap(x.Heap, y.Heap) && slices.Equal(x.Roots, y.Roots) && slices.Equal(x.Pins, y.Pins) &&
-		slices.Equal(x.Globals.Entries, y.Globals.Entries) && slices.Equal(x.Weaks.Entries, y.Weaks.Entries) &&
-		slices.Equal(x.Locals.Slots, y.Locals.Slots) && slices.Equal(x.Locals.Scopes, y.Locals.Scopes) &&
-		slices.Equal(x.Locals.Issued, y.Locals.Issued)
-}
-
-// copied returns a copy of an environment.
-func copied(x api.Env) api.Env {
-	x.Heap.Words, x.Heap.Pages = slices.Clone(x.Heap.Words), slices.Clone(x.Heap.Pages)
-	x.Locals = api.Locals{Slots: slices.Clone(x.Locals.Slots), Scopes: slices.Clone(x.Locals.Scopes), Issued: slices.Clone(x.Locals.Issued)}
-	x.Globals.Entries, x.Weaks.Entries = slices.Clone(x.Globals.Entries), slices.Clone(x.Weaks.Entries)
-	x.Pins, x.Roots = slices.Clone(x.Pins), slices.Clone(x.Roots)
-	return x
-}
-
-// changed returns a copy of an environment that has been changed.
-func changed(x api.Env, change func(x *api.Env)) api.Env {
-	x = copied(x)
-	change(&x)
-	return x
-}
-
-// whole returns a copy of an environment with what is behind its slices.
-func whole(x api.Env) api.Env {
-	return api.Env{
-		Heap: heaptest.WholeHeap(x.Heap),
-		Locals: api.Locals{
-			Slots: heaptest.Whole(x.Locals.Slots), Scopes: heaptest.Whole(x.Locals.Scopes), Issued: heaptest.Whole(x.Locals.Issued),
-		},
-		Globals: api.Table{Entries: heaptest.Whole(x.Globals.Entries)},
-		Weaks:   api.Table{Entries: heaptest.Whole(x.Weaks.Entries)},
-		Pins:    heaptest.Whole(x.Pins),
-		Roots:   heaptest.Whole(x.Roots),
-	}
-}
-
-// guarded returns a copy of an environment with marks behind its slices, and a
-// function that reports whether all of this is still as it was.
-func guarded(x api.Env) (api.Env, func() bool) {
-	slot, scope, entry := api.Slot{Stamp: 77}, api.Scope{From: 77}, api.Entry{Gen: 77}
-	x = api.Env{
-		Heap: heaptest.RoomyHeap(x.Heap),
-		Locals: api.Locals{
-			Slots: heaptest.Roomy(x.Locals.Slots, slot), Scopes: heaptest.Roomy(x.Locals.Scopes, scope), Issued: heaptest.Roomy(x.Locals.Issued, 77),
-		},
-		Globals: api.Table{Entries: heaptest.Roomy(x.Globals.Entries, entry)},
-		Weaks:   api.Table{Entries: heaptest.Roomy(x.Weaks.Entries, entry)},
-		Pins:    heaptest.Roomy(x.Pins, api.Pin{Ref: 77}),
-		Roots:   heaptest.Roomy(x.Roots, 77),
-	}
-	before := whole(x)
-	return x, func() bool { return same(whole(x), before) }
-}
-
-// fill writes a value into a slice, and behind it.
-func fill[T any](l []T, v T) {
-	l = l[:cap(l)]
-	for k := range l {
-		l[k] = v
-	}
-}
-
-// overwrite writes into the slices of an environment, and behind them. It
-// reports whether no two of them share memory.
-func overwrite(x api.Env) bool {
-	apart := heaptest.Overwrite(x.Heap, x.Roots)
-	fill(x.Locals.Slots, api.Slot{Stamp: 88})
-	fill(x.Locals.Scopes, api.Scope{From: 88})
-	fill(x.Locals.Issued, 88)
-	fill(x.Pins, api.Pin{Ref: 88})
-	fill(x.Globals.Entries, api.Entry{Gen: 88})
-	fill(x.Weaks.Entries, api.Entry{Gen: 99})
-	return apart && !slices.Contains(x.Globals.Entries, api.Entry{Gen: 99})
 }
 
 // result is what a call returns besides an environment and an error.
@@ -124,10 +44,10 @@ func allocating(hd api.Header) call {
 // that all of it is zero.
 func after(t *testing.T, x api.Env, do call) (api.Env, result, api.Errno) {
 	t.Helper()
-	given, unchanged := guarded(x)
+	given, unchanged := envtest.Guarded(x)
 	returned, r, e := do(given)
-	out := copied(returned)
-	if !overwrite(returned) {
+	out := envtest.Copied(returned)
+	if !envtest.Overwrite(returned) {
 		t.Fatalf("slices of the result share memory: %s", show(out))
 	}
 	if !unchanged() {
@@ -136,7 +56,7 @@ func after(t *testing.T, x api.Env, do call) (api.Env, result, api.Errno) {
 	if e == api.OK && !env.Valid(out) {
 		t.Fatalf("the result is not valid: %s", show(out))
 	}
-	if e != api.OK && (!same(out, api.Env{}) || r != result{}) {
+	if e != api.OK && (!envtest.Same(out, api.Env{}) || r != result{}) {
 		t.Fatalf("with error %d, the result is %s and %v", e, show(out), r)
 	}
 	return out, r, e
@@ -146,7 +66,7 @@ func after(t *testing.T, x api.Env, do call) (api.Env, result, api.Errno) {
 func becomes(t *testing.T, x api.Env, do call, want api.Env, wantResult result, wantError api.Errno) {
 	t.Helper()
 	out, r, e := after(t, x, do)
-	if e != wantError || r != wantResult || !same(out, want) {
+	if e != wantError || r != wantResult || !envtest.Same(out, want) {
 		t.Fatalf("%s\nbecomes %s, %v, error %d, want\n%s, %v, error %d", show(x), show(out), r, e, show(want), wantResult, wantError)
 	}
 }
@@ -171,7 +91,7 @@ func refuses(t *testing.T, x api.Env, do call, want api.Errno) {
 // their argument stays as it is.
 func valid(t *testing.T, x api.Env) bool {
 	t.Helper()
-	given, unchanged := guarded(x)
+	given, unchanged := envtest.Guarded(x)
 	ok := env.Valid(given)
 	if !unchanged() {
 		t.Fatal("Valid has changed its argument")
@@ -181,10 +101,10 @@ func valid(t *testing.T, x api.Env) bool {
 
 func strong(t *testing.T, x api.Env) []uint64 {
 	t.Helper()
-	given, unchanged := guarded(x)
+	given, unchanged := envtest.Guarded(x)
 	returned := env.Strong(given)
 	l := slices.Clone(returned)
-	fill(returned, 99)
+	envtest.Fill(returned, 99)
 	if !unchanged() {
 		t.Fatal("Strong has changed its argument, or shares memory with it")
 	}
@@ -193,7 +113,7 @@ func strong(t *testing.T, x api.Env) []uint64 {
 
 func resolved(t *testing.T, x api.Env, w uint64) (uint64, api.Errno) {
 	t.Helper()
-	given, unchanged := guarded(x)
+	given, unchanged := envtest.Guarded(x)
 	ref, e := env.Resolve(given, w)
 	if !unchanged() {
 		t.Fatal("Resolve has changed its argument")
@@ -236,7 +156,7 @@ func weakOf(x api.Env) []uint64 {
 
 // put gives other strong and weak roots to an environment.
 func put(x api.Env, strong, weak []uint64) api.Env {
-	x = copied(x)
+	x = envtest.Copied(x)
 	next := func(l *[]uint64) (ref uint64) {
 		ref, *l = (*l)[0], (*l)[1:]
 		return ref
@@ -279,7 +199,7 @@ func collected(x api.Env) (api.Env, result, api.Errno) {
 // allocated is what Alloc must return for a valid environment. It also reports
 // whether it needs a collection.
 func allocated(x api.Env, hd api.Header) (out api.Env, r result, full bool, e api.Errno) {
-	out = copied(x)
+	out = envtest.Copied(x)
 	out.Heap, r.addr, e = alloc.New(x.Heap, hd)
 	if full = e == api.ErrMemory; full {
 		if out, _, e = collected(x); e == api.OK {

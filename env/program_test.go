@@ -7,6 +7,7 @@ import (
 	"semispace/api"
 	"semispace/bound"
 	"semispace/env"
+	"semispace/envtest"
 	"semispace/heaptest"
 	"semispace/object"
 	"semispace/pin"
@@ -87,12 +88,12 @@ func (p *program) clear() {
 func (p *program) check() {
 	p.t.Helper()
 	for _, y := range p.handles {
-		ref, e := resolved(p.t, p.x, word(y.tag, y.index, y.stamp))
+		ref, e := resolved(p.t, p.x, envtest.Word(y.tag, y.index, y.stamp))
 		p.must(e)
 		p.is(ref, y.id)
 	}
 	for _, y := range p.lost[max(0, len(p.lost)-8):] {
-		resolves(p.t, p.x, word(y.tag, y.index, y.stamp), 0, y.e)
+		resolves(p.t, p.x, envtest.Word(y.tag, y.index, y.stamp), 0, y.e)
 	}
 	for k, id := range p.roots {
 		p.is(p.x.Roots[k], id)
@@ -261,7 +262,7 @@ func (p *program) some() (known, uint64) {
 		return known{}, 0
 	}
 	y := p.handles[p.Below(len(p.handles))]
-	ref, e := resolved(p.t, p.x, word(y.tag, y.index, y.stamp))
+	ref, e := resolved(p.t, p.x, envtest.Word(y.tag, y.index, y.stamp))
 	p.must(e)
 	return y, ref
 }

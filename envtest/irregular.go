@@ -1,4 +1,4 @@
-package env_test
+package envtest
 
 import (
 	"slices"
@@ -17,9 +17,9 @@ type maker struct {
 	env     api.Env
 }
 
-// irregular returns an irregular environment that is valid. Its heap need not be
+// Irregular returns an irregular environment that is valid. Its heap need not be
 // one that the calls of the system make.
-func irregular(x *heaptest.Numbers) api.Env {
+func Irregular(x *heaptest.Numbers) api.Env {
 	s := x.Scene()
 	s.Pinned = nil
 	m := maker{Numbers: x, env: api.Env{Heap: s.Heap()}}
@@ -109,9 +109,9 @@ func (m *maker) makePins() {
 	}
 }
 
-// spoil changes an environment, mostly in one thing, after which it need not be
+// Spoil changes an environment, mostly in one thing, after which it need not be
 // valid.
-func spoil(x *heaptest.Numbers, y *api.Env) {
+func Spoil(x *heaptest.Numbers, y *api.Env) {
 	kinds := []func(*heaptest.Numbers, *api.Env){spoilHeap, spoilLocals, spoilTable, spoilTable, spoilPins, spoilRoots}
 	kinds[x.Below(len(kinds))](x, y)
 }
