@@ -31,7 +31,6 @@ var (
 	deletedLocal  = envtest.Word(api.Local, 1, 2)
 	staleLocal    = envtest.Word(api.Local, 3, 4)
 	deletedGlobal = envtest.Word(api.Global, 0, 4)
-	deletedWeak   = envtest.Word(api.Weak, 2, 1)
 )
 
 // next is the next local handle that envtest.Ordinary issues.

@@ -110,19 +110,6 @@ func TestMaps(t *testing.T) {
 	}
 }
 
-// bad are words of envtest.Ordinary that cannot be resolved, and their errors.
-func bad() map[uint64]api.Errno {
-	m := map[uint64]api.Errno{
-		deletedLocal: api.ErrDeleted, staleLocal: api.ErrStale, deletedGlobal: api.ErrDeleted, deletedWeak: api.ErrDeleted,
-		envtest.Word(api.Global, 3, 6): api.ErrDeleted, envtest.Word(api.Weak, 1, 1): api.ErrDeleted, envtest.Word(api.Local, 4, 5): api.ErrStale,
-		envtest.Word(api.Global, 1, 2): api.ErrForged, envtest.Word(api.Weak, 64, 1): api.ErrForged, envtest.Word(api.Local, 5, 8): api.ErrForged,
-	}
-	for _, w := range envtest.Forged() {
-		m[w] = api.ErrForged
-	}
-	return m
-}
-
 // stuck is envtest.Ordinary, but nothing can be made: its scope and its tables
 // are full, as many local handles as there may be have been issued, and no other
 // small object may be pinned.
@@ -152,7 +139,7 @@ func TestNoObject(t *testing.T) {
 	for _, op := range objectCalls {
 		for _, x := range []api.Env{envtest.Ordinary(), roomy(), stuck()} {
 			for _, b := range []uint64{0, 3, huge} {
-				for w, e := range bad() {
+				for w, e := range envtest.Unusable() {
 					refuses(t, x, request{op, w, b, staleLocal}, e)
 				}
 				refuses(t, x, request{op, 0, b, 4}, api.ErrNull)
@@ -180,7 +167,7 @@ func TestFieldErrors(t *testing.T) {
 	for _, y := range []struct{ h, i uint64 }{{weak4096, 0}, {weak4096, 2}, {local4106, 0}, {local4112, 18}} {
 		refuses(t, x, request{boundary.GetWord, y.h, y.i, 0}, api.ErrKind)
 		refuses(t, x, request{boundary.SetWord, y.h, y.i, 4}, api.ErrKind)
-		for w, e := range bad() {
+		for w, e := range envtest.Unusable() {
 			refuses(t, x, request{boundary.SetRef, y.h, y.i, w}, e)
 		}
 	}
@@ -220,7 +207,7 @@ func TestNoLocal(t *testing.T) {
 			refuses(t, x, request{boundary.NewLocal, 4, 0, 0}, api.ErrForged)
 		}
 	}
-	for w, e := range bad() {
+	for w, e := range envtest.Unusable() {
 		refuses(t, envtest.Ordinary(), request{boundary.NewLocal, w, 0, 0}, e)
 	}
 	done(t, envtest.Changed(roomy(), issuedBut(1)), request{boundary.NewLocal, global4104, 0, 0}, envtest.Word(api.Local, 5, 4096))
@@ -228,7 +215,7 @@ func TestNoLocal(t *testing.T) {
 
 // 19.1: both words of Same are resolved, the first one first.
 func TestSameErrors(t *testing.T) {
-	for w, e := range bad() {
+	for w, e := range envtest.Unusable() {
 		for _, other := range []uint64{0, cleared, local4106, 4, staleLocal, deletedGlobal} {
 			refuses(t, envtest.Ordinary(), request{boundary.Same, w, other, 0}, e)
 		}
@@ -249,7 +236,7 @@ func TestDeleteErrors(t *testing.T) {
 	}
 	for op := range handles {
 		refuses(t, envtest.Ordinary(), request{op, 0, local4106, local4106}, api.ErrNull)
-		for w, e := range bad() {
+		for w, e := range envtest.Unusable() {
 			refuses(t, envtest.Ordinary(), request{op, w, 0, 0}, e)
 		}
 		for other, l := range handles {
@@ -286,7 +273,7 @@ func TestPushErrors(t *testing.T) {
 // handle in the scope around it.
 func TestPopErrors(t *testing.T) {
 	base := envtest.Changed(envtest.Ordinary(), func(x *api.Env) { x.Locals.Scopes[2].Base = true })
-	for w, e := range bad() {
+	for w, e := range envtest.Unusable() {
 		refuses(t, base, request{boundary.PopScope, w, 0, 0}, e)
 		refuses(t, roomy(), request{boundary.PopScope, w, 0, 0}, e)
 	}

@@ -9,54 +9,10 @@ import (
 	"semispace/heaptest"
 )
 
-// someWord returns the word of a handle that an environment has or had, or
-// something else.
-func someWord(x *heaptest.Numbers, y api.Env) uint64 {
-	switch n := x.Below(12); {
-	case n < 5 && len(y.Locals.Issued) > 0:
-		stamp := 1 + x.Below(len(y.Locals.Issued))
-		if n < 3 && len(y.Locals.Slots) > 0 {
-			stamp = y.Locals.Slots[x.Below(len(y.Locals.Slots))].Stamp
-		}
-		return envtest.Word(api.Local, y.Locals.Issued[stamp-1], stamp)
-	case n < 8 && len(y.Globals.Entries) > 0:
-		return someEntry(x, api.Global, y.Globals)
-	case n < 11 && len(y.Weaks.Entries) > 0:
-		return someEntry(x, api.Weak, y.Weaks)
-	}
-	forged := envtest.Forged()
-	return []uint64{0, forged[x.Below(len(forged))], uint64(x.Below(70)), envtest.Word(x.Below(4), x.Below(8), x.Below(8))}[x.Below(4)]
-}
-
-// someEntry returns the word of a handle in a table, mostly of the last
-// generation.
-func someEntry(x *heaptest.Numbers, tag int, t api.Table) uint64 {
-	i := x.Below(len(t.Entries))
-	gen := t.Entries[i].Gen
-	if x.Below(4) == 0 {
-		gen += x.Below(3) - 1
-	}
-	return envtest.Word(tag, i, gen)
-}
-
-// someNumber returns a number of words, of a field or of anything else.
-func someNumber(x *heaptest.Numbers) uint64 {
-	if x.Below(12) == 0 {
-		return uint64(1)<<x.Below(64) - uint64(x.Below(3))
-	}
-	return uint64(x.Below([]int{2, 4, 20}[x.Below(3)]))
-}
-
 // someRequest returns a call, with arguments that it mostly can have.
 func someRequest(x *heaptest.Numbers, y api.Env) request {
-	r := request{1 + x.Below(20), someWord(x, y), someNumber(x), someWord(x, y)}
-	switch r.op {
-	case 1, 2, 3, 17:
-		r.a = someNumber(x)
-	case 10:
-		r.b = someWord(x, y)
-	}
-	return r
+	op, a, b, c := envtest.SomeCall(x, y)
+	return request{op, a, b, c}
 }
 
 // 19.1: irregular environments, in which there is hardly ever room for another

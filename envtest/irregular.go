@@ -116,6 +116,15 @@ func Spoil(x *heaptest.Numbers, y *api.Env) {
 	kinds[x.Below(len(kinds))](x, y)
 }
 
+// SpoilHandles changes handles of an environment, as Spoil does.
+func SpoilHandles(x *heaptest.Numbers, y *api.Env) {
+	if x.Below(2) == 0 {
+		spoilLocals(x, y)
+	} else {
+		spoilTable(x, y)
+	}
+}
+
 func spoilHeap(x *heaptest.Numbers, y *api.Env) {
 	if x.Below(3) > 0 {
 		x.Spoil(&y.Heap)

@@ -62,6 +62,26 @@ func Ordinary() api.Env {
 	}
 }
 
+// Unusable are words that refer to nothing in Ordinary, and their errors.
+func Unusable() map[uint64]api.Errno {
+	m := map[uint64]api.Errno{
+		Word(api.Local, 1, 2):  api.ErrDeleted,
+		Word(api.Local, 3, 4):  api.ErrStale,
+		Word(api.Local, 4, 5):  api.ErrStale,
+		Word(api.Local, 5, 8):  api.ErrForged,
+		Word(api.Global, 0, 4): api.ErrDeleted,
+		Word(api.Global, 3, 6): api.ErrDeleted,
+		Word(api.Global, 1, 2): api.ErrForged,
+		Word(api.Weak, 1, 1):   api.ErrDeleted,
+		Word(api.Weak, 2, 1):   api.ErrDeleted,
+		Word(api.Weak, 64, 1):  api.ErrForged,
+	}
+	for _, w := range Forged() {
+		m[w] = api.ErrForged
+	}
+	return m
+}
+
 // Empty is an environment with an empty heap.
 func Empty() api.Env {
 	return api.Env{Heap: api.Heap{Conf: heaptest.Conf, Words: make([]uint64, 128), Pages: make([]api.Page, 8), Bump: -1}}
