@@ -18,7 +18,7 @@ func someRequest(x *heaptest.Numbers, y api.Env) request {
 // 19.1: irregular environments, in which there is hardly ever room for another
 // object, and others that begin with nothing; and calls one after the other.
 func TestIrregular(t *testing.T) {
-	results := map[int]int{}
+	count := envtest.Counts{}
 	for seed := range 500 {
 		x := heaptest.Numbers(seed + 1)
 		y := envtest.Irregular(&x)
@@ -28,26 +28,14 @@ func TestIrregular(t *testing.T) {
 		for range 16 {
 			r := someRequest(&x, y)
 			out, _, e := calls(t, y, r)
-			results[int(e)]++
+			count.Call(r.op, e)
 			if e == api.OK {
-				results[100+r.op]++
 				y = out
 			}
 		}
 	}
-	for _, e := range []api.Errno{
-		api.OK, api.ErrArg, api.ErrRange, api.ErrMemory, api.ErrKind, api.ErrNull, api.ErrForged, api.ErrStale,
-		api.ErrDeleted, api.ErrScope, api.ErrCapacity, api.ErrFull, api.ErrUnpinned, api.ErrCritical,
-	} {
-		if results[int(e)] < 10 {
-			t.Errorf("hardly any with error %d: %v", e, results)
-		}
-	}
-	for op := 1; op <= 20; op++ {
-		if results[100+op] < 10 {
-			t.Errorf("hardly any of call %d without an error: %v", op, results)
-		}
-	}
+	often(t, count, 10, envtest.Errors()...)
+	often(t, count, 10, envtest.Calls(1)...)
 }
 
 // R1: no call panics, and all end, in environments that are as strange as can

@@ -1,12 +1,12 @@
 package boundary_test
 
 import (
-	"strconv"
 	"testing"
 
 	"semispace/api"
 	"semispace/boundary"
 	"semispace/env"
+	"semispace/envtest"
 	"semispace/heaptest"
 	"semispace/pin"
 	"semispace/scope"
@@ -22,7 +22,7 @@ type program struct {
 	twins   bool           // whether there is a twin
 	at      map[int]uint64 // of what has been pinned, the address of field 0
 	full    int            // in so many steps rather delete something
-	count   map[string]int
+	count   envtest.Counts
 }
 
 // must ends the test if there is an error.
@@ -48,10 +48,10 @@ func (p *program) step() {
 		p.t.Fatalf("%v: error %d, want %d, with %s", r, e, want, show(p.x))
 	}
 	p.doTwin(r, v, e)
+	p.count.Call(r.op, e)
 	if e != api.OK {
 		return
 	}
-	p.count["call "+strconv.Itoa(r.op)]++
 	if out.Heap.Space != p.x.Heap.Space {
 		p.count["collections"]++
 		p.count["cleared"] += p.clear()
@@ -239,13 +239,11 @@ func (p *program) run(n int) {
 	}
 }
 
-// often checks that a program has done all these things.
-func often(t *testing.T, count map[string]int, n int, things ...string) {
+// often checks that all these things have happened often.
+func often(t *testing.T, count envtest.Counts, n int, things ...string) {
 	t.Helper()
-	for _, what := range things {
-		if count[what] < n {
-			t.Errorf("hardly any: %s, of %v", what, count)
-		}
+	if l := count.Seldom(n, things...); len(l) > 0 {
+		t.Errorf("hardly any: %v, of %v", l, count)
 	}
 }
 
@@ -253,22 +251,20 @@ func often(t *testing.T, count map[string]int, n int, things ...string) {
 // only, as long as it is to be used, and all errors follow from what one knows
 // without addresses, but for those that say that there is no room.
 func TestPrograms(t *testing.T) {
-	count := map[string]int{}
+	count := envtest.Counts{}
 	for seed := range 48 {
 		x := heaptest.Numbers(seed + 1)
 		p := program{t: t, Numbers: &x, count: count}
 		p.run(400)
 	}
 	often(t, count, 40, "collections", "cleared", "no room")
-	for op := 1; op <= 20; op++ {
-		often(t, count, 40, "call "+strconv.Itoa(op))
-	}
+	often(t, count, 40, envtest.Calls(1)...)
 }
 
 // 19.3: no result but that of GetCritical depends on where objects are. There
 // are no weak handles, which show whether there has been a collection.
 func TestBlindness(t *testing.T) {
-	count := map[string]int{}
+	count := envtest.Counts{}
 	for seed := range 16 {
 		x := heaptest.Numbers(seed + 1000)
 		p := program{t: t, Numbers: &x, twins: true, count: count}

@@ -55,8 +55,7 @@ func begin(c api.Conf) api.Env {
 // that begin with nothing. The model has its own order of things, and some that
 // are no objects any more.
 func TestAgrees(t *testing.T) {
-	results := map[api.Errno]int{}
-	calls := map[int]int{}
+	count := envtest.Counts{}
 	for seed := range 700 {
 		n := heaptest.Numbers(seed + 1)
 		x := envtest.Irregular(&n)
@@ -67,25 +66,14 @@ func TestAgrees(t *testing.T) {
 			op, a, b, c := envtest.SomeCall(&n, x)
 			r := request{op, a, b, c}
 			out, e := agrees(t, x, worldtest.Scattered(&n, x), r)
-			results[e]++
+			count.Call(op, e)
 			if e == api.OK {
-				calls[op]++
 				x = out
 			}
 		}
 	}
-	for _, e := range []api.Errno{
-		api.OK, api.ErrArg, api.ErrRange, api.ErrMemory, api.ErrKind, api.ErrNull, api.ErrForged, api.ErrStale,
-		api.ErrDeleted, api.ErrScope, api.ErrCapacity, api.ErrFull, api.ErrUnpinned, api.ErrCritical,
-	} {
-		if results[e] < 10 {
-			t.Errorf("hardly any with error %d: %v", e, results)
-		}
-	}
-	for op := 1; op <= 20; op++ {
-		if calls[op] < 10 {
-			t.Errorf("hardly any of call %d without an error: %v", op, calls)
-		}
+	if l := count.Seldom(10, append(envtest.Errors(), envtest.Calls(1)...)...); len(l) > 0 {
+		t.Errorf("hardly any: %v, of %v", l, count)
 	}
 }
 

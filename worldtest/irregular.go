@@ -91,3 +91,8 @@ func spoilRoots(n *heaptest.Numbers, w *rules.World) { w.Roots = append(w.Roots,
 func strange(n *heaptest.Numbers, w rules.World) uint64 {
 	return uint64(n.Below(len(w.Things) + 4))
 }
+
+// SomeCall returns a boundary call, with arguments that it mostly can have.
+func SomeCall(n *heaptest.Numbers, w rules.World) (op int, a, b, c uint64) {
+	return envtest.SomeCall(n, handlesOf(w))
+}

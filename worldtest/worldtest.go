@@ -191,3 +191,16 @@ func whole(w rules.World) rules.World {
 	}
 	return w
 }
+
+// Overwrite writes into the slices of a world, and behind them. It reports
+// whether no two of them share memory.
+func Overwrite(w rules.World) bool {
+	var lists [][]uint64
+	for _, y := range w.Things {
+		lists = append(lists, y.Fields)
+	}
+	apart := heaptest.Overwrite(api.Heap{}, append(lists, w.Roots)...)
+	envtest.Fill(w.Things, rules.Thing{})
+	envtest.Fill(w.Marks, rules.Mark{Count: 88})
+	return envtest.Overwrite(handlesOf(w)) && apart
+}
