@@ -6,6 +6,7 @@ import (
 
 	"semispace/api"
 	"semispace/boundary"
+	"semispace/codetest"
 	"semispace/env"
 	"semispace/envtest"
 	"semispace/heaptest"
@@ -139,7 +140,7 @@ func (p *runner) fails(what string, e api.Errno) {
 // doCall does a boundary call of the program.
 func (p *runner) doCall(x ncode.Ins) uint64 {
 	var l [3]uint64
-	copy(l[:], p.regs[x.C:x.C+arguments[x.B]])
+	copy(l[:], p.regs[x.C:x.C+codetest.Arguments(x.B)])
 	y, v, e := boundary.Call(p.x, x.B, l[0], l[1], l[2])
 	switch p.fails("call", e); {
 	case e == api.OK:

@@ -22,16 +22,16 @@ func runnable(c Code) bool {
 		return false
 	}
 	for _, x := range c.Ins {
-		if !fits(x, len(c.Ins)) {
+		if !Fits(x, len(c.Ins)) {
 			return false
 		}
 	}
 	return true
 }
 
-// fits reports whether the registers that a well-formed instruction uses exist,
-// and it jumps to one of n instructions or behind the last one.
-func fits(x Ins, n int) bool {
+// Fits reports whether the registers that a well-formed instruction uses exist,
+// and it jumps to one of n instructions or behind the last one, if it jumps.
+func Fits(x Ins, n int) bool {
 	switch x.Op {
 	case Move, Add, Sub, Mul, And, Less, Equal, Load, Store:
 		return x.B < Registers

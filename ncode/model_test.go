@@ -4,28 +4,10 @@ import (
 	"slices"
 	"strconv"
 
+	"semispace/codetest"
 	"semispace/heaptest"
 	"semispace/ncode"
 )
-
-// arguments are the numbers of arguments of the boundary calls, by their
-// numbers.
-var arguments = map[int]int{
-	1: 2, 2: 1, 3: 1, 4: 1, 5: 1, 6: 2, 7: 3, 8: 2, 9: 3, 10: 2, 11: 1, 12: 1, 13: 1, 14: 1, 15: 1, 16: 1,
-	17: 1, 18: 1, 19: 1, 20: 1,
-}
-
-// formed is 22.2's definition of a well-formed instruction, with its limits
-// written out.
-func formed(x ncode.Ins) bool {
-	return x.Op > 0 && x.Op < 18 && x.A > -1 && x.A < 8 && x.B > -1 && x.B < 256 && x.C > -1 && x.C < 8
-}
-
-// hasWords reports whether there are words of a program.
-func hasWords(c ncode.Code) bool {
-	return c.Args > -1 && c.Args < 4 && len(c.Ins) < 257 &&
-		!slices.ContainsFunc(c.Ins, func(x ncode.Ins) bool { return !formed(x) })
-}
 
 // words are those of a program, in numbers instead of bits.
 func words(c ncode.Code) []uint64 {
@@ -49,51 +31,25 @@ func program(l []uint64) (ncode.Code, bool) {
 			})
 		}
 	}
-	if !hasWords(c) || !slices.Equal(words(c), l) {
+	if !codetest.HasWords(c) || !slices.Equal(words(c), l) {
 		return ncode.Code{}, false
 	}
 	return c, true
 }
 
-// used are the registers that an instruction uses, as far as one knows without
-// the functions.
-func used(x ncode.Ins) []int {
-	switch x.Op {
-	case ncode.Jump:
-		return nil
-	case ncode.Move, ncode.Load, ncode.Store:
-		return []int{x.A, x.B}
-	case ncode.Add, ncode.Sub, ncode.Mul, ncode.And, ncode.Less, ncode.Equal:
-		return []int{x.A, x.B, x.C}
-	case ncode.Call:
-		l := []int{x.A}
-		for i := range arguments[x.B] {
-			l = append(l, x.C+i)
-		}
-		return l
-	}
-	return []int{x.A}
-}
-
-// inside reports whether a program that has words uses only registers that
-// exist and jumps only to its instructions and behind them.
+// inside reports whether all instructions of a program that has words use only
+// registers that exist and jump only to others and behind the last one.
 func inside(c ncode.Code) bool {
-	for _, x := range c.Ins {
-		jumps := x.Op == ncode.Jump || x.Op == ncode.JumpIf
-		if jumps && x.K > uint64(len(c.Ins)) || slices.ContainsFunc(used(x), func(r int) bool { return r > 7 }) {
-			return false
-		}
-	}
-	return true
+	return !slices.ContainsFunc(c.Ins, func(x ncode.Ins) bool { return !codetest.Inside(x, len(c.Ins)) })
 }
 
 // checked reports whether Check of a program is OK.
 func checked(c ncode.Code, functions []int) bool {
-	if !hasWords(c) || !inside(c) {
+	if !codetest.HasWords(c) || !inside(c) {
 		return false
 	}
 	for _, x := range c.Ins {
-		if x.Op == ncode.Call && arguments[x.B] == 0 {
+		if x.Op == ncode.Call && codetest.Arguments(x.B) == 0 {
 			return false
 		}
 		if x.Op == ncode.Upcall && (x.B >= len(functions) || functions[x.B] > 8 || x.C+functions[x.B] > 8) {
@@ -132,7 +88,7 @@ func obeys(s sorts, i int, x ncode.Ins) (sorts, bool) {
 	case ncode.Call, ncode.Upcall:
 		n := 8 - x.C
 		if x.Op == ncode.Call {
-			n = arguments[x.B]
+			n = codetest.Arguments(x.B)
 		}
 		for r := range 8 {
 			ok = ok && (r < x.C || r >= x.C+n || s[r] == word)
@@ -221,7 +177,7 @@ func follow(c ncode.Code, limit int) (before []map[sorts]bool, obeying, complete
 // isSafe follows all paths of a program, and what they have in common where they
 // meet. The second result is false if there are too many paths.
 func isSafe(c ncode.Code) (ok, complete bool) {
-	if !hasWords(c) || !inside(c) {
+	if !codetest.HasWords(c) || !inside(c) {
 		return false, true
 	}
 	before, obeying, complete := follow(c, 20000)
@@ -266,12 +222,12 @@ func someIns(x *heaptest.Numbers, n int) ncode.Ins {
 		y.K = uint64(x.Below(n + 1))
 	case ncode.Call:
 		y.B = []int{19, 19, 20, 1 + x.Below(20)}[x.Below(4)]
-		y.C = x.Below([]int{3, 9 - arguments[y.B]}[x.Below(2)])
+		y.C = x.Below([]int{3, 9 - codetest.Arguments(y.B)}[x.Below(2)])
 	case ncode.Upcall:
 		y.B = x.Below(4)
 	}
 	if x.Below(60) == 0 {
-		spoil(x, &y)
+		codetest.Spoil(x, &y)
 	}
 	return y
 }
@@ -284,23 +240,4 @@ func someOp(x *heaptest.Numbers) int {
 	}
 	l := []int{ncode.Move, ncode.Add, ncode.JumpIf, ncode.Load, ncode.Store, ncode.Call, ncode.Call}
 	return l[x.Below(len(l))]
-}
-
-// spoil changes one part of an instruction to something that is often not
-// allowed.
-func spoil(x *heaptest.Numbers, y *ncode.Ins) {
-	l := extremes()
-	n := l[x.Below(len(l))]
-	switch x.Below(5) {
-	case 0:
-		y.Op = n
-	case 1:
-		y.A = n
-	case 2:
-		y.B = n
-	case 3:
-		y.C = n
-	case 4:
-		y.K = uint64(n)
-	}
 }

@@ -4,6 +4,7 @@ import (
 	"slices"
 	"testing"
 
+	"semispace/codetest"
 	"semispace/envtest"
 	"semispace/heaptest"
 	"semispace/ncode"
@@ -138,7 +139,7 @@ func TestSafeOfIrregularPrograms(t *testing.T) {
 		}
 		if !complete {
 			count["too many paths"]++
-		} else if hasWords(c) && inside(c) && !want {
+		} else if codetest.HasWords(c) && inside(c) && !want {
 			count["unsafe"]++
 		}
 		return want

@@ -6,6 +6,7 @@ import (
 	"testing"
 
 	"semispace/api"
+	"semispace/codetest"
 	"semispace/heaptest"
 	"semispace/ncode"
 )
@@ -38,9 +39,9 @@ func TestCheckOfProgramsWithoutWords(t *testing.T) {
 	allows(t, true, ncode.Code{Args: 3})
 	allows(t, false, ncode.Code{Args: 4})
 	allows(t, false, ncode.Code{Args: -1})
-	allows(t, true, long(256))
-	allows(t, false, long(257))
-	for _, n := range extremes() {
+	allows(t, true, codetest.Long(256))
+	allows(t, false, codetest.Long(257))
+	for _, n := range codetest.Extremes() {
 		for op := range 18 {
 			for _, x := range []ncode.Ins{ins(op, n, 1, 1), ins(op, 1, n, 1), ins(op, 1, 1, n), ins(n, op%8, 1, 1)} {
 				checks(t, of(x), []int{1, 2, 3})
@@ -72,7 +73,7 @@ func TestCheckOfJumps(t *testing.T) {
 		for _, i := range []int{0, n / 2, n - 1} {
 			for _, k := range []uint64{0, 1, 2, 3, 5, 6, 254, 255, 256, 257, 1 << 32, 1 << 63, 1<<63 + 1, huge} {
 				for op := 1; op <= 17; op++ {
-					c := long(n)
+					c := codetest.Long(n)
 					c.Ins[i] = ncode.Ins{Op: op, A: 1, B: 1, C: 1, K: k}
 					jumps := op == ncode.Jump || op == ncode.JumpIf
 					allows(t, k <= uint64(n) || !jumps, c, 1, 1)
@@ -86,7 +87,7 @@ func TestCheckOfJumps(t *testing.T) {
 func TestCheckOfCalls(t *testing.T) {
 	for op := range 256 {
 		for c := range 8 {
-			ok := op >= 1 && op <= 20 && c+arguments[op] <= 8
+			ok := op >= 1 && op <= 20 && c+codetest.Arguments(op) <= 8
 			allows(t, ok, of(ins(ncode.Call, 0, op, c)))
 			allows(t, ok, of(ins(ncode.Call, 7, op, c)), 1, 2, 3)
 		}
@@ -114,6 +115,25 @@ func TestCheckOfUpcalls(t *testing.T) {
 	}
 }
 
+// Fits says of each well-formed instruction alone what 22.3 says of registers and
+// targets, in programs of any length.
+func TestFits(t *testing.T) {
+	for op := 1; op <= 17; op++ {
+		for _, b := range []int{0, 1, 6, 7, 8, 9, 10, 19, 20, 21, 255} {
+			for c := range 8 {
+				for _, k := range []uint64{0, 1, 2, 3, 255, 256, 257, 1 << 63, huge} {
+					for _, n := range []int{0, 1, 2, 255, 256} {
+						x := ncode.Ins{Op: op, A: 7, B: b, C: c, K: k}
+						if ok := ncode.Fits(x, n); ok != codetest.Inside(x, n) {
+							t.Fatalf("Fits of %v and %d: %v", x, n, ok)
+						}
+					}
+				}
+			}
+		}
+	}
+}
+
 // 22.3: irregular programs.
 func TestCheckOfIrregularPrograms(t *testing.T) {
 	x := heaptest.Numbers(223)
@@ -124,7 +144,7 @@ func TestCheckOfIrregularPrograms(t *testing.T) {
 		for range n {
 			y := someIns(&x, n)
 			if x.Below(12) == 0 {
-				spoil(&x, &y)
+				codetest.Spoil(&x, &y)
 			}
 			c.Ins = append(c.Ins, y)
 		}

@@ -4,6 +4,7 @@ import (
 	"slices"
 	"testing"
 
+	"semispace/codetest"
 	"semispace/ncode"
 )
 
@@ -156,12 +157,12 @@ func TestSafeOfRegisters(t *testing.T) {
 func TestSafeOfCalls(t *testing.T) {
 	for op := range 24 {
 		for a := range 8 {
-			for c := range 9 - arguments[op] {
+			for c := range 9 - codetest.Arguments(op) {
 				if c > 7 {
 					continue
 				}
 				x := ins(ncode.Call, a, op, c)
-				ok := !slices.ContainsFunc(seen[c:c+arguments[op]], func(s string) bool { return s != word })
+				ok := !slices.ContainsFunc(seen[c:c+codetest.Arguments(op)], func(s string) bool { return s != word })
 				changes := map[int]string{a: word}
 				switch op {
 				case 19:
@@ -195,8 +196,8 @@ func TestSafeOfUpcalls(t *testing.T) {
 
 // 22.4: what makes a program unsafe wherever it is, also where no path leads.
 func TestSafeOfProgramsThatAreNotRunnable(t *testing.T) {
-	judges(t, true, long(256))
-	judges(t, false, long(257), ncode.Code{Args: 4}, ncode.Code{Args: -1})
+	judges(t, true, codetest.Long(256))
+	judges(t, false, codetest.Long(257), ncode.Code{Args: 4}, ncode.Code{Args: -1})
 	for _, end := range []ncode.Ins{ins(ncode.Return, 0, 0, 0), jump(2)} {
 		hidden := func(x ncode.Ins) ncode.Code { return of(end, x, out(0)) }
 		for op := 1; op <= 17; op++ {
@@ -213,7 +214,7 @@ func TestSafeOfProgramsThatAreNotRunnable(t *testing.T) {
 		}
 		for b := range 256 {
 			for c := range 8 {
-				judges(t, c+arguments[b] <= 8, hidden(ins(ncode.Call, 0, b, c)))
+				judges(t, c+codetest.Arguments(b) <= 8, hidden(ins(ncode.Call, 0, b, c)))
 			}
 		}
 		judges(t, false, hidden(ins(0, 0, 0, 0)), hidden(ins(18, 0, 0, 0)), hidden(ins(1<<32+1, 0, 0, 0)))

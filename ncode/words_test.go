@@ -6,6 +6,7 @@ import (
 	"testing"
 
 	"semispace/api"
+	"semispace/codetest"
 	"semispace/heaptest"
 	"semispace/ncode"
 )
@@ -29,8 +30,8 @@ func TestNumbers(t *testing.T) {
 // 22.1
 func TestArgs(t *testing.T) {
 	for op := -300; op < 600; op++ {
-		if n := ncode.Args(op); n != arguments[op] {
-			t.Errorf("Args(%d) = %d, want %d", op, n, arguments[op])
+		if n := ncode.Args(op); n != codetest.Arguments(op) {
+			t.Errorf("Args(%d) = %d, want %d", op, n, codetest.Arguments(op))
 		}
 	}
 	for _, op := range []int{math.MinInt, math.MinInt + 1, -1 << 32, 1<<32 + 1, 1<<32 + 7, 1<<62 + 9, math.MaxInt} {
@@ -44,7 +45,7 @@ func TestArgs(t *testing.T) {
 func encodes(t *testing.T, c ncode.Code) {
 	t.Helper()
 	l, e := encode(t, c)
-	if !hasWords(c) {
+	if !codetest.HasWords(c) {
 		if len(l) != 0 || e != api.ErrArg {
 			t.Fatalf("Encode of %v: %v, error %d", c, l, e)
 		}
@@ -96,13 +97,13 @@ func TestProgramsAndWords(t *testing.T) {
 
 // 22.2: all combinations of numbers around the limits of an instruction.
 func TestWellFormedInstructions(t *testing.T) {
-	l := extremes()
+	l := codetest.Extremes()
 	for _, op := range l {
 		for _, a := range l {
 			for _, b := range l {
 				for _, c := range l {
 					x := ins(op, a, b, c)
-					if got, e := ncode.Encode(of(x)); (e == api.OK) != formed(x) || e != api.OK && e != api.ErrArg || (len(got) > 0) != (e == api.OK) {
+					if got, e := ncode.Encode(of(x)); (e == api.OK) != codetest.Formed(x) || e != api.OK && e != api.ErrArg || (len(got) > 0) != (e == api.OK) {
 						t.Fatalf("Encode of %v: %v, error %d", x, got, e)
 					}
 				}
@@ -119,18 +120,18 @@ func TestWellFormedInstructions(t *testing.T) {
 // 22.2: an instruction that is not well-formed, wherever it is, and the numbers
 // of arguments and instructions.
 func TestLimitsOfPrograms(t *testing.T) {
-	for _, n := range extremes() {
+	for _, n := range codetest.Extremes() {
 		encodes(t, ncode.Code{Args: n})
 		encodes(t, ncode.Code{Args: n, Ins: []ncode.Ins{out(1)}})
 		encodes(t, ncode.Code{Args: n, Ins: []ncode.Ins{out(8)}})
 		for i := range 4 {
-			c := long(4)
+			c := codetest.Long(4)
 			c.Ins[i].Op = n
 			encodes(t, c)
 		}
 	}
 	for _, n := range []int{1, 2, 255, 256, 257, 258, 511, 512, 513, 1000} {
-		c := long(n)
+		c := codetest.Long(n)
 		encodes(t, c)
 		c.Ins[n-1].A = 8
 		encodes(t, c)
@@ -147,8 +148,8 @@ func TestInstructionsOfWords(t *testing.T) {
 				w := uint64(low) | b<<12 | c<<20
 				x := ncode.Ins{Op: low % 256, A: low / 256, B: int(b), C: int(c), K: w + 1}
 				got, e := ncode.Decode([]uint64{3, w, w + 1})
-				if formed(x) && (e != api.OK || !same(got, ncode.Code{Args: 3, Ins: []ncode.Ins{x}})) ||
-					!formed(x) && (e != api.ErrForm || !same(got, ncode.Code{})) {
+				if codetest.Formed(x) && (e != api.OK || !same(got, ncode.Code{Args: 3, Ins: []ncode.Ins{x}})) ||
+					!codetest.Formed(x) && (e != api.ErrForm || !same(got, ncode.Code{})) {
 					t.Fatalf("Decode of %#x: %v, error %d", w, got, e)
 				}
 			}
@@ -174,12 +175,12 @@ func TestListsOfWords(t *testing.T) {
 		decodes(t, []uint64{n, 0, 5})
 	}
 	for _, n := range []int{254, 255, 256, 257, 258, 600} {
-		l := words(long(n))
+		l := words(codetest.Long(n))
 		decodes(t, l)
 		decodes(t, l[:2*n])
 		decodes(t, append(l, 1))
 	}
-	l := words(long(4))
+	l := words(codetest.Long(4))
 	for i := range l {
 		for _, w := range []uint64{0, 18, 0x801, 1 << 24, 0x800001, huge} {
 			faulty := slices.Clone(l)
@@ -216,7 +217,7 @@ func TestIrregularWords(t *testing.T) {
 
 // The words of a program and the program of words are new memory.
 func TestResultsAreNewMemory(t *testing.T) {
-	c := long(3)
+	c := codetest.Long(3)
 	before := slices.Clone(c.Ins)
 	l, e := ncode.Encode(c)
 	d, f := ncode.Decode(l)

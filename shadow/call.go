@@ -16,22 +16,9 @@ func Call(w rules.World, op int, a, b, c uint64, f Fact) (rules.World, uint64, a
 	if e := rules.Verdict(w, op, a, b, c, f.Failed); e != api.OK {
 		return rules.World{}, 0, e
 	}
-	k := call{w: owned(w), op: op, a: a, b: b, c: c, fact: f}
+	k := call{w: rules.Copy(w), op: op, a: a, b: b, c: c, fact: f}
 	result := k.do()
 	return k.w, result, api.OK
-}
-
-// owned returns the same world in new memory: a call changes only a part of it,
-// but no part of its result may be the argument's.
-func owned(w rules.World) rules.World {
-	w.Things = slices.Clone(w.Things)
-	for k := range w.Things {
-		w.Things[k].Fields = slices.Clone(w.Things[k].Fields)
-	}
-	w.Locals = api.Locals{Slots: slices.Clone(w.Locals.Slots), Scopes: slices.Clone(w.Locals.Scopes), Issued: slices.Clone(w.Locals.Issued)}
-	w.Globals.Entries, w.Weaks.Entries = slices.Clone(w.Globals.Entries), slices.Clone(w.Weaks.Entries)
-	w.Marks, w.Roots = slices.Clone(w.Marks), slices.Clone(w.Roots)
-	return w
 }
 
 // call is a call with its arguments, which changes its world. As the verdict on

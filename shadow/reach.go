@@ -73,7 +73,7 @@ func Collect(w rules.World) (rules.World, api.Errno) {
 	if !rules.Valid(w) {
 		return rules.World{}, api.ErrCorrupt
 	}
-	out := owned(w)
+	out := rules.Copy(w)
 	out.Weaks = cleared(w)
 	return out, api.OK
 }
